@@ -5,6 +5,7 @@ import (
 	"strings"
 
 	"stutter/api"
+	"stutter/words"
 )
 
 // reader goes through lines and keeps what it has found.
@@ -145,7 +146,7 @@ func wordOf(word string) (int, int, api.Errno) {
 	if len(word) > api.MaxName {
 		return 0, 0, api.ErrName
 	}
-	if isReserved(word) {
+	if words.IsReserved(word) {
 		return api.TokenWord, len(word), api.OK
 	}
 	return api.TokenName, len(word), api.OK

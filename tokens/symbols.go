@@ -21,19 +21,6 @@ var spellings = [...][2]string{
 	{`\leq`, "<="}, {`\geq`, ">="}, {`\union`, `\cup`}, {`\intersect`, `\cap`},
 }
 
-// isReserved says whether a word is none of a name.
-func isReserved(word string) bool {
-	switch word {
-	case "ASSUME", "ASSUMPTION", "AXIOM", "BY", "CASE", "CHOOSE", "CONSTANT", "CONSTANTS", "COROLLARY", "DEF", "DEFINE", "DEFS",
-		"DOMAIN", "ELSE", "ENABLED", "EXCEPT", "EXTENDS", "FALSE", "HAVE", "HIDE", "IF", "IN", "INSTANCE", "LAMBDA", "LEMMA",
-		"LET", "LOCAL", "MODULE", "NEW", "OBVIOUS", "OMITTED", "ONLY", "OTHER", "PICK", "PROOF", "PROPOSITION", "PROVE", "QED",
-		"RECURSIVE", "SUBSET", "SUFFICES", "TAKE", "THEN", "THEOREM", "TRUE", "UNCHANGED", "UNION", "USE", "VARIABLE",
-		"VARIABLES", "WITH", "WITNESS":
-		return true
-	}
-	return false
-}
-
 // isRule says whether a text is a line of four signs or more.
 func isRule(text string) bool {
 	if len(text) < 4 || text[0] != '-' && text[0] != '=' {
