@@ -4,29 +4,16 @@ import (
 	"slices"
 
 	"stutter/api"
-	"stutter/exprs"
-	"stutter/tree"
+	"stutter/usage"
 	"stutter/words"
 )
-
-// appliesName says whether a node applies an operator that has a name.
-func appliesName(n api.Node) bool {
-	_, err := tree.OperatorOf(n.Text)
-	return n.Kind == api.ExprApply && err != api.OK
-}
-
-// takes is how many arguments a name takes: any, if it is a constant.
-type takes struct {
-	arity int
-	any   bool
-}
 
 // CheckScope says whether constants, variables and definitions fit together.
 func CheckScope(s api.LevelScope) (int, api.Errno) {
 	if len(s.Constants) > api.MaxConstants || len(s.Vars) > api.MaxVars || len(s.Defs) > api.MaxDefs {
 		return 0, api.ErrLarge
 	}
-	known := map[string]takes{}
+	known := map[string]usage.Takes{}
 	for i, name := range slices.Concat(s.Constants, s.Vars) {
 		if !words.IsName(name) {
 			return 0, api.ErrName
@@ -34,37 +21,20 @@ func CheckScope(s api.LevelScope) (int, api.Errno) {
 		if _, is := known[name]; is {
 			return 0, api.ErrExists
 		}
-		known[name] = takes{any: i < len(s.Constants)}
+		known[name] = usage.Takes{Any: i < len(s.Constants)}
 	}
-	all := namesOf(s)
+	all := usage.NamesOf(s)
 	for i, d := range s.Defs {
 		if err := checkDef(d, known, all); err != api.OK {
 			return i, err
 		}
-		known[d.Name] = takes{arity: len(d.Params)}
+		known[d.Name] = usage.Takes{Arity: len(d.Params)}
 	}
 	return 0, api.OK
 }
 
-// namesOf is all names of a scope, of two that are the same the first one.
-func namesOf(s api.LevelScope) map[string]takes {
-	all := map[string]takes{}
-	for _, name := range s.Constants {
-		all[name] = takes{any: true}
-	}
-	for _, name := range s.Vars {
-		all[name] = takes{}
-	}
-	for _, d := range s.Defs {
-		if _, is := all[d.Name]; !is {
-			all[d.Name] = takes{arity: len(d.Params)}
-		}
-	}
-	return all
-}
-
 // checkDef looks at a definition; known are the names before it.
-func checkDef(d api.Def, known, all map[string]takes) api.Errno {
+func checkDef(d api.Def, known, all map[string]usage.Takes) api.Errno {
 	for _, name := range slices.Concat([]string{d.Name}, d.Params) {
 		if !words.IsName(name) {
 			return api.ErrName
@@ -89,82 +59,21 @@ func checkDef(d api.Def, known, all map[string]takes) api.Errno {
 			return api.ErrDouble
 		}
 	}
-	inner := map[string]takes{}
+	inner := map[string]usage.Takes{}
 	for name, t := range known {
 		inner[name] = t
 	}
 	if d.Recursive {
 		inner = all
 	}
-	params := map[string]takes{}
+	params := map[string]usage.Takes{}
 	for i, name := range d.Params {
 		if _, is := all[name]; is {
 			return api.ErrClash
 		}
-		params[name] = takes{arity: d.Arities[i]}
+		params[name] = usage.Takes{Arity: d.Arities[i]}
 	}
-	return checkIn(d.Body, inner, params)
-}
-
-// checkIn is the error of an expression whose free names are those of a scope, or parameters.
-func checkIn(e api.Expr, known, params map[string]takes) api.Errno {
-	if _, err := tree.CheckExpr(e); err != api.OK {
-		return err
-	}
-	errs := make([]api.Errno, len(e))
-	parents := exprs.Parents(e)
-	var walk func(node int, bound map[string]takes)
-	walk = func(node int, bound map[string]takes) {
-		n := e[node]
-		argument := parents[node] != api.None && appliesName(e[parents[node]])
-		if n.Kind == api.ExprName && !words.IsBuiltIn(n.Text) || appliesName(n) {
-			errs[node] = checkUse(n, argument, bound, params, known)
-		}
-		for i, a := range n.Args {
-			walk(a, withBound(n, i, bound))
-		}
-	}
-	walk(len(e)-1, nil)
-	for _, err := range errs {
-		if err != api.OK {
-			return err
-		}
-	}
-	return api.OK
-}
-
-// withBound adds what a node binds in an operand.
-func withBound(n api.Node, operand int, bound map[string]takes) map[string]takes {
-	names := exprs.Binds(n, operand)
-	if len(names) == 0 {
-		return bound
-	}
-	out := map[string]takes{}
-	for name, t := range bound {
-		out[name] = t
-	}
-	for _, name := range names {
-		out[name] = takes{}
-		if n.Kind == api.ExprLet && name == n.Names[0] {
-			out[name] = takes{arity: len(n.Names) - 1}
-		}
-	}
-	return out
-}
-
-// checkUse looks at a name; the first list that has it says what it takes.
-func checkUse(n api.Node, argument bool, lists ...map[string]takes) api.Errno {
-	for _, l := range lists {
-		t, is := l[n.Text]
-		if !is {
-			continue
-		}
-		if t.any || len(n.Args) == t.arity || n.Kind == api.ExprName && argument {
-			return api.OK
-		}
-		return api.ErrArity
-	}
-	return api.ErrMissing
+	return usage.CheckIn(d.Body, inner, params)
 }
 
 // checkBoth is the error of a scope, and then of an expression in it.
@@ -172,5 +81,5 @@ func checkBoth(s api.LevelScope, e api.Expr) api.Errno {
 	if _, err := CheckScope(s); err != api.OK {
 		return err
 	}
-	return checkIn(e, namesOf(s), nil)
+	return usage.CheckIn(e, usage.NamesOf(s), nil)
 }
