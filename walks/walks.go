@@ -8,8 +8,8 @@ import (
 	"stutter/api"
 )
 
-// compareEdges orders edges.
-func compareEdges(a, b api.Edge) int {
+// CompareEdges orders edges.
+func CompareEdges(a, b api.Edge) int {
 	return cmp.Or(cmp.Compare(a.From, b.From), cmp.Compare(a.To, b.To), cmp.Compare(a.Action, b.Action))
 }
 
@@ -24,7 +24,7 @@ func IsGraph(g api.Graph) bool {
 		}
 	}
 	for i, e := range g.Edges {
-		if min(e.From, e.To, e.Action) < 0 || max(e.From, e.To) >= g.States || e.Action >= api.MaxActions || i > 0 && compareEdges(g.Edges[i-1], e) >= 0 {
+		if min(e.From, e.To, e.Action) < 0 || max(e.From, e.To) >= g.States || e.Action >= api.MaxActions || i > 0 && CompareEdges(g.Edges[i-1], e) >= 0 {
 			return false
 		}
 	}
