@@ -5,6 +5,7 @@ import (
 
 	"stutter/api"
 	"stutter/eval"
+	"stutter/statements"
 	"stutter/values"
 )
 
@@ -89,7 +90,7 @@ func (r *runner) finish(w way, label string) {
 }
 
 // labelOf is the label that comes before a node, or at the end of the part.
-func (r *runner) labelOf(n *node) string {
+func (r *runner) labelOf(n *statements.Node) string {
 	if n == nil {
 		return r.in.end
 	}
@@ -97,7 +98,7 @@ func (r *runner) labelOf(n *node) string {
 }
 
 // to goes on to a node, unless a label comes.
-func (r *runner) to(w way, n *node) {
+func (r *runner) to(w way, n *statements.Node) {
 	if label := r.labelOf(n); label != "" {
 		r.finish(w, label)
 		return
@@ -106,21 +107,21 @@ func (r *runner) to(w way, n *node) {
 }
 
 // block goes on in a block; an empty one goes on behind its statement.
-func (r *runner) block(w way, n *node, block int) {
-	if l := n.blocks[block]; len(l) > 0 {
+func (r *runner) block(w way, n *statements.Node, block int) {
+	if l := n.Inner[block]; len(l) > 0 {
 		r.to(w, l[0])
 		return
 	}
-	r.to(w, n.after)
+	r.to(w, n.After)
 }
 
 // execute executes a statement, and what comes behind it.
-func (r *runner) execute(w way, n *node) {
+func (r *runner) execute(w way, n *statements.Node) {
 	r.tried++
 	if r.tried > api.MaxPlusTried {
 		panic(api.ErrLarge)
 	}
-	w.bound = w.bound[:n.withs:n.withs]
+	w.bound = w.bound[:n.Withs:n.Withs]
 	switch n.Kind {
 	case api.PlusAssert:
 		if !r.truth(w, n.Exprs[0]) {
@@ -140,11 +141,11 @@ func (r *runner) execute(w way, n *node) {
 		case n.Kind == api.PlusIf:
 			r.block(w, n, 1)
 		default:
-			r.to(w, n.after)
+			r.to(w, n.After)
 		}
 		return
 	case api.PlusEither:
-		for i := range n.blocks {
+		for i := range n.Inner {
 			r.block(w, n, i)
 		}
 		return
@@ -161,11 +162,11 @@ func (r *runner) execute(w way, n *node) {
 		r.back(w)
 		return
 	}
-	r.to(w, n.after)
+	r.to(w, n.After)
 }
 
 // with goes on for the value, or for each member of the set.
-func (r *runner) with(w way, n *node) {
+func (r *runner) with(w way, n *statements.Node) {
 	v := r.value(w, n.Exprs[0])
 	members := []api.Value{v}
 	if n.In {
@@ -181,7 +182,7 @@ func (r *runner) with(w way, n *node) {
 }
 
 // assign evaluates all expressions, and then assigns target after target.
-func (r *runner) assign(w way, n *node) way {
+func (r *runner) assign(w way, n *statements.Node) way {
 	var keys [][]api.Value
 	var items []api.Value
 	for i, t := range n.Targets {
@@ -223,14 +224,14 @@ func except(f, key, item api.Value) api.Value {
 }
 
 // call begins a procedure.
-func (r *runner) call(w way, n *node) {
+func (r *runner) call(w way, n *statements.Node) {
 	p := r.procedures[slices.IndexFunc(r.procedures, func(p *part) bool { return p.name == n.Name })]
 	var args []api.Value
 	for _, e := range n.Exprs {
 		args = append(args, r.value(w, e))
 	}
 	keys := []api.Value{values.String("pc"), values.String("procedure")}
-	items := []api.Value{values.String(r.labelOf(n.after)), values.String(p.name)}
+	items := []api.Value{values.String(r.labelOf(n.After)), values.String(p.name)}
 	for _, name := range p.frame() {
 		keys, items = append(keys, values.String(name)), append(items, r.get(w, name))
 	}
@@ -275,7 +276,7 @@ func (r *runner) back(w way) {
 }
 
 // begin finds the part and the node of a label for an identity; none at Done and Error.
-func (s *system) begin(x identity, label string) (*part, *node) {
+func (s *system) begin(x identity, label string) (*part, *statements.Node) {
 	for _, p := range append([]*part{x.part}, s.procedures...) {
 		if n := p.labels[label]; n != nil {
 			return p, n

@@ -6,58 +6,16 @@ import (
 	"stutter/api"
 	"stutter/eval"
 	"stutter/pluscal"
+	"stutter/statements"
 	"stutter/tree"
 	"stutter/values"
 )
-
-// node is a statement, those in its blocks, the one behind it (nil: the part ends), and how many PlusWiths are around it.
-type node struct {
-	api.PlusStmt
-	blocks [][]*node
-	after  *node
-	withs  int
-}
-
-// grown are the nodes of statements; behind the last one of a loop the loop comes.
-func grown(l []api.PlusStmt, after *node, withs int) []*node {
-	out := make([]*node, len(l))
-	for i := range slices.Backward(l) {
-		n := &node{PlusStmt: l[i], after: after, withs: withs}
-		if i+1 < len(l) {
-			n.after = out[i+1]
-		}
-		next, inner := n.after, withs
-		switch n.Kind {
-		case api.PlusWhile:
-			next = n
-		case api.PlusWith:
-			inner++
-		}
-		for _, b := range n.Blocks {
-			n.blocks = append(n.blocks, grown(b, next, inner))
-		}
-		out[i] = n
-	}
-	return out
-}
-
-// labelled adds the nodes with labels to a map.
-func labelled(l []*node, by map[string]*node) {
-	for _, n := range l {
-		if n.Label != "" {
-			by[n.Label] = n
-		}
-		for _, b := range n.blocks {
-			labelled(b, by)
-		}
-	}
-}
 
 // part is a process, a procedure, or the body: its nodes by their labels, its variables, and what comes at its end.
 type part struct {
 	name   string
 	first  string
-	labels map[string]*node
+	labels map[string]*statements.Node
 	params []string
 	vars   []api.PlusVar
 	end    string
@@ -65,8 +23,8 @@ type part struct {
 }
 
 func partOf(name string, params []string, vars []api.PlusVar, body []api.PlusStmt, end string) *part {
-	p := &part{name: name, params: params, vars: vars, end: end, labels: map[string]*node{}, first: body[0].Label}
-	labelled(grown(body, nil, 0), p.labels)
+	p := &part{name: name, params: params, vars: vars, end: end, labels: map[string]*statements.Node{}, first: body[0].Label}
+	statements.Labelled(statements.Grown(body), p.labels)
 	return p
 }
 

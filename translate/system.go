@@ -1,0 +1,214 @@
+package translate
+
+import (
+	"slices"
+
+	"stutter/api"
+	"stutter/exprs"
+	"stutter/pluscal"
+	"stutter/process"
+	"stutter/statements"
+	"stutter/words"
+)
+
+// none is the value of a variable that begins without one.
+const none = "defaultInitValue"
+
+// part is a process, a procedure, or the body.
+type part struct {
+	api.PlusProcess
+	params    []string
+	procedure bool
+	end       string
+	labels    []string
+	nodes     map[string]*statements.Node
+}
+
+// system is a program that is translated.
+type system struct {
+	api.PlusProgram
+	api.Algorithm
+	vars       []string
+	parts      []*part // procedures, then processes, or the body
+	concurrent bool
+	large      bool
+}
+
+// isShared says whether a variable is a function on identities, and known in a part by its value for one.
+func (s *system) isShared(p *part, variable string) bool {
+	return s.concurrent && (p.procedure || p.In) && slices.Contains(p.frame(), variable)
+}
+
+// frame is the parameters and variables of a part.
+func (p *part) frame() []string {
+	out := slices.Clone(p.params)
+	for _, v := range p.Vars {
+		out = append(out, v.Name)
+	}
+	return out
+}
+
+// systemOf prepares a program, or returns its error.
+func systemOf(p api.PlusProgram) (*system, api.Errno) {
+	vars, err := process.VarsOf(p)
+	if err != api.OK {
+		return nil, err
+	}
+	a, err := pluscal.Expanded(p.Algorithm)
+	if err != api.OK {
+		return nil, err
+	}
+	s := &system{PlusProgram: p, Algorithm: a, vars: vars, concurrent: len(a.Processes) > 0}
+	for _, q := range a.Procedures {
+		s.add(&part{PlusProcess: api.PlusProcess{Name: q.Name, Vars: q.Vars, Body: q.Body}, params: q.Params, procedure: true, end: "Error"})
+	}
+	for _, q := range a.Processes {
+		s.add(&part{PlusProcess: q, end: "Done"})
+	}
+	if !s.concurrent {
+		s.add(&part{PlusProcess: api.PlusProcess{Fair: a.Fair, Body: a.Body}, end: "Done"})
+	}
+	if s.isRefused() {
+		return nil, api.ErrRefused
+	}
+	return s, api.OK
+}
+
+func (s *system) add(p *part) {
+	p.nodes = map[string]*statements.Node{}
+	statements.Labelled(statements.Grown(p.Body), p.nodes)
+	p.labels = labelsOf(p.Body)
+	s.parts = append(s.parts, p)
+}
+
+// labelsOf are the labels of statements, in their order.
+func labelsOf(l []api.PlusStmt) []string {
+	var out []string
+	for _, x := range l {
+		if x.Label != "" {
+			out = append(out, x.Label)
+		}
+		for _, b := range x.Blocks {
+			out = append(out, labelsOf(b)...)
+		}
+	}
+	return out
+}
+
+// eachStatement calls see for all statements.
+func eachStatement(l []api.PlusStmt, see func(x api.PlusStmt)) {
+	for _, x := range l {
+		see(x)
+		for _, b := range x.Blocks {
+			eachStatement(b, see)
+		}
+	}
+}
+
+// isRefused says whether a name stands in the way of those of the specification.
+func (s *system) isRefused() bool {
+	taken := slices.Clone(s.vars)
+	for _, b := range s.Constants {
+		taken = append(taken, b.Name)
+	}
+	for _, d := range s.Defs {
+		taken = append(taken, d.Name)
+	}
+	standard := []string{"Nat", "Int", "Seq"}
+	refused := s.concurrent && slices.Contains(taken, "ProcSet") || slices.ContainsFunc(s.vars, func(v string) bool { return slices.Contains(standard, v) })
+	var all []api.Expr
+	for _, v := range s.Vars {
+		all = append(all, v.Value)
+	}
+	for _, d := range s.Defs {
+		all = append(all, d.Body)
+	}
+	for _, p := range s.parts {
+		for _, label := range p.labels {
+			refused = refused || slices.Contains(taken, label) || slices.Contains(append([]string{"ProcSet", "self", none}, standard...), label)
+		}
+		all = append(all, p.Value)
+		for _, v := range p.Vars {
+			all = append(all, v.Value)
+		}
+		eachStatement(p.Body, func(x api.PlusStmt) {
+			with := x.Kind == api.PlusWith
+			refused = refused || with && (slices.Contains(standard, x.Name) || x.Name == none || x.Name == "self")
+			for _, t := range x.Targets {
+				all = append(all, t.Index...)
+			}
+			all = append(all, x.Exprs...)
+		})
+	}
+	return refused || slices.ContainsFunc(all, bindsSelf)
+}
+
+// bindsSelf says whether a node of an expression binds the name self.
+func bindsSelf(e api.Expr) bool {
+	return slices.ContainsFunc(e, func(n api.Node) bool {
+		for i := range n.Args {
+			if slices.Contains(exprs.Binds(n, i), "self") {
+				return true
+			}
+		}
+		return false
+	})
+}
+
+// own is an expression of a part, in which variables that are functions on identities stand for their values for one.
+func (s *system) own(p *part, e api.Expr) api.Expr {
+	var put func(t *exprs.Tree, bound []string) *exprs.Tree
+	put = func(t *exprs.Tree, bound []string) *exprs.Tree {
+		if t.Kind == api.ExprName && !words.IsBuiltIn(t.Text) && !slices.Contains(bound, t.Text) && s.isShared(p, t.Text) {
+			return &exprs.Tree{Kind: api.ExprCall, Kids: []*exprs.Tree{t, exprs.NameTree("self")}}
+		}
+		for i, k := range t.Kids {
+			t.Kids[i] = put(k, slices.Concat(bound, t.Binds(i)))
+		}
+		return t
+	}
+	return put(exprs.Grow(e), nil).Flat()
+}
+
+// get is the value of a variable in a part.
+func (s *system) get(p *part, variable string) api.Expr {
+	if s.isShared(p, variable) || s.concurrent && (variable == "pc" || variable == "stack") {
+		return of(api.ExprCall, name(variable), name("self"))
+	}
+	return name(variable)
+}
+
+// set is a variable's new value for an identity.
+func (s *system) set(p *part, variable string, value api.Expr) api.Expr {
+	if s.isShared(p, variable) || s.concurrent && (variable == "pc" || variable == "stack") {
+		value = except(name(variable), name("self"), value)
+	}
+	return apply("=", primed(variable), value)
+}
+
+// members is the set of identities of a process.
+func members(p *part) api.Expr {
+	if p.In {
+		return p.Value
+	}
+	return of(api.ExprSet, p.Value)
+}
+
+// processes are the parts that are processes.
+func (s *system) processes() []*part {
+	return slices.DeleteFunc(slices.Clone(s.parts), func(p *part) bool { return p.procedure })
+}
+
+// unchanged is what some changes, which are already conjuncts, leave: nothing else changes.
+func (s *system) unchanged(changed []string, conjuncts []api.Expr) api.Expr {
+	var rest []api.Expr
+	for _, v := range s.vars {
+		if !slices.Contains(changed, v) {
+			rest = append(rest, name(v))
+		}
+	}
+	if len(rest) > 0 {
+		conjuncts = append(conjuncts, apply("UNCHANGED", of(api.ExprTuple, rest...)))
+	}
+	return joined(`/\`, conjuncts...)
+}
