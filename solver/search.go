@@ -18,8 +18,8 @@ type search struct {
 	bump    int
 }
 
-// decided returns a model or a refutation; formulas of more than SureSolverVars variables may need too much.
-func decided(vars int, lists [][]int) (api.Verdict, api.Errno) {
+// decided returns a model or a refutation, and takes a unit of fuel for each clause that it learns; formulas of more than SureSolverVars variables may need too much.
+func decided(vars int, lists [][]int, fuel *int) (api.Verdict, api.Errno) {
 	s := &search{engine: started(vars, lists), vars: vars, scores: make([]int, vars+1), bump: 1}
 	s.weigh(lists)
 	for !s.broken {
@@ -35,7 +35,9 @@ func decided(vars int, lists [][]int) (api.Verdict, api.Errno) {
 		if len(s.limits) == 0 {
 			break
 		}
-		if len(s.learned) == api.MaxLearned-1 || !s.learn(conflict) {
+		*fuel--
+		isOut := *fuel < 0 && vars > api.SureSolverVars
+		if isOut || len(s.learned) == api.MaxLearned-1 || !s.learn(conflict) {
 			return api.Verdict{}, api.ErrFuel
 		}
 	}

@@ -359,6 +359,21 @@ func TestAssumptions(t *testing.T) {
 	}
 }
 
+func TestManyAssumptions(t *testing.T) {
+	f := example()
+	f.Vars = 400
+	assumed := append(long(4, 397), -3)
+	v, l, err := SolveWith(f, assumed)
+	if at, wrong := CheckVerdict(withUnits(f, l), v); !v.Refuted || !slices.Equal(l, []int{-3}) || at != 0 || err != api.OK || wrong != api.OK {
+		t.Error(v, l, err, wrong)
+	}
+	hard := pigeons(7, 6)
+	hard.Vars = 400
+	if v, l, err := SolveWith(hard, long(43, 358)); err != api.ErrFuel && (err != api.OK || !v.Refuted || len(l) != 0) {
+		t.Error(l, err)
+	}
+}
+
 func checkPropagation(t *testing.T, f api.Clauses, assumed []int, models [][]bool) {
 	known, conflict, _ := Propagated(f, assumed)
 	if conflict != api.None && len(models) > 0 {
