@@ -53,10 +53,11 @@ type calc struct {
 	stamps  int
 	levels  []int
 	applied map[string]int // definitions by their names
+	nested
 }
 
 func newCalc(s api.LevelScope) *calc {
-	c := &calc{scope: s, applied: map[string]int{}}
+	c := &calc{scope: s, applied: map[string]int{}, nested: nested{inside: map[int]int{}, known: map[string]int{}}}
 	c.root = c.newFrame()
 	for i, d := range s.Defs {
 		c.bodies = append(c.bodies, exprs.Grow(d.Body))
@@ -126,7 +127,18 @@ func highest(levels ...int) int {
 
 // useDef is the level of a definition with operands.
 func (c *calc) useDef(def int, levels []int) int {
-	recursive := c.scope.Defs[def].Recursive && c.reach[def][def]
+	if c.isCrowded(def) {
+		return c.useTogether(def, levels)
+	}
+	return c.useNested(def, levels)
+}
+
+// isRecursive says whether a definition reaches itself.
+func (c *calc) isRecursive(def int) bool { return c.scope.Defs[def].Recursive && c.reach[def][def] }
+
+// useTogether is the level of a definition of a crowd with operands: all that reach one another rise at once, those but the first one with parameters 0, since there is no end to the ways through them.
+func (c *calc) useTogether(def int, levels []int) int {
+	recursive := c.isRecursive(def)
 	if c.active != nil && c.active.members[def] {
 		if recursive {
 			return highest(append(slices.Clone(levels), c.active.assumed[def])...)

@@ -72,6 +72,26 @@ func TestLevelOf(t *testing.T) {
 	}
 }
 
+// TestMutual has definitions that reach one another: each is evaluated with the levels of its operands, unless it is within itself.
+func TestMutual(t *testing.T) {
+	few := []string{"!A(a) == B(a)", "!B(b) == b' = 1 \\/ A(b)", "!C(n) == x \\/ D1(n)", "!D1(n) == E(n)'", "!E(n) == n \\/ C(n)", "!I(n) == ENABLED (J(n))", "!J(n) == n \\/ I(x)"}
+	var many []string
+	for i := range 12 {
+		many = append(many, "!R"+strconv.Itoa(i)+"(n) == n \\/ R"+strconv.Itoa((i+1)%12)+"(n) \\/ R"+strconv.Itoa((i+5)%12)+"(n)")
+	}
+	for text, want := range map[string]int{"A(x)": 2, "B(x)": 2, "A(c)": 0, "A(x')": -1, "C(1)": -1, "I(1)": 1, "J(1)": 1, "J(x')": 2, "J([]x)": -1} {
+		got, err := LevelOf(scope(t, few...), expr(t, text))
+		if want == -1 && err != api.ErrLevel || want >= 0 && (got != want || err != api.OK) {
+			t.Errorf("%s: %d %d, want %d", text, got, err, want)
+		}
+	}
+	for text, want := range map[string]int{"R0(1)": 0, "R3(x)": 1, "R11(x')": 2} {
+		if got, err := LevelOf(scope(t, many...), expr(t, text)); got != want || err != api.OK {
+			t.Errorf("%s: %d %d, want %d", text, got, err, want)
+		}
+	}
+}
+
 func TestDeep(t *testing.T) {
 	s := api.LevelScope{Vars: []string{"x"}}
 	s.Defs = append(s.Defs, def(t, "A0 == x"))
