@@ -57,7 +57,7 @@ type calc struct {
 }
 
 func newCalc(s api.LevelScope) *calc {
-	c := &calc{scope: s, applied: map[string]int{}, nested: nested{inside: map[int]int{}, known: map[string]int{}}}
+	c := &calc{scope: s, applied: map[string]int{}, nested: nested{inside: map[int]int{}, known: map[string][]known{}}}
 	c.root = c.newFrame()
 	for i, d := range s.Defs {
 		c.bodies = append(c.bodies, exprs.Grow(d.Body))
@@ -68,6 +68,7 @@ func newCalc(s api.LevelScope) *calc {
 		for _, name := range freeIn(s.Defs[i]) {
 			if j, is := c.applied[name]; is {
 				c.reach[i][j] = true
+				c.uses = append(c.uses, [2]int{i, j})
 			}
 		}
 	}

@@ -85,6 +85,16 @@ func TestMutual(t *testing.T) {
 			t.Errorf("%s: %d %d, want %d", text, got, err, want)
 		}
 	}
+	var round []string
+	for i := range 40 {
+		round = append(round, "!T"+strconv.Itoa(i)+"(n) == T"+strconv.Itoa((i+1)%40)+"(n)")
+	}
+	round[39] = "!T39(n) == n' \\/ T0(n)"
+	for text, want := range map[string]int{"T0(1)": 0, "T0(x)": 2, "T20(x)": 2, "T5(c)": 0} {
+		if got, err := LevelOf(scope(t, round...), expr(t, text)); got != want || err != api.OK {
+			t.Errorf("%s: %d %d, want %d", text, got, err, want)
+		}
+	}
 	for text, want := range map[string]int{"R0(1)": 0, "R3(x)": 1, "R11(x')": 2} {
 		if got, err := LevelOf(scope(t, many...), expr(t, text)); got != want || err != api.OK {
 			t.Errorf("%s: %d %d, want %d", text, got, err, want)
