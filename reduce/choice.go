@@ -33,11 +33,15 @@ func (m *moves) first(s int, permitted, wanted func(e api.Edge) bool) []int {
 	return nil
 }
 
-// dependentPath is a path without chosen actions on which one that depends on a chosen one is taken.
+// dependentPath is a path without chosen actions up to an action that depends on a chosen one: the state after this action is no part of it.
 func (m *moves) dependentPath(s int, chosen []int) []int {
-	return m.first(s, func(e api.Edge) bool { return !slices.Contains(chosen, e.Action) }, func(e api.Edge) bool {
+	p := m.first(s, func(e api.Edge) bool { return !slices.Contains(chosen, e.Action) }, func(e api.Edge) bool {
 		return slices.ContainsFunc(chosen, func(a int) bool { return m.dependent(a, e.Action) })
 	})
+	if p == nil {
+		return nil
+	}
+	return p[:len(p)-1]
 }
 
 // faultIn is the first of the rules 1 to 3 that a choice breaks in a state; false if it breaks none.

@@ -6,6 +6,7 @@ import (
 	"testing"
 
 	"stutter/api"
+	"stutter/walks"
 )
 
 func edges(l ...int) (out []api.Edge) {
@@ -78,7 +79,7 @@ func TestChoices(t *testing.T) {
 		want   api.ReduceFault
 		err    api.Errno
 	}{
-		{g, same, [][]int{{0}, {1}, {0}, {}}, api.ReduceFault{}, api.OK}, {g, same, [][]int{{0, 1}, {1}, {0}, {}}, api.ReduceFault{}, api.OK}, {g, odd, [][]int{{0}, {1}, {0}, {}}, api.ReduceFault{State: 0, Rule: 3, Path: []int{0}}, api.ErrBroken}, {g, same, [][]int{{0}, {}, {0}, {}}, api.ReduceFault{State: 1, Rule: 1}, api.ErrBroken}, {less, same, [][]int{{0}, {1}, {}, {}}, api.ReduceFault{State: 0, Rule: 2, Path: []int{0, 1, 2}}, api.ErrBroken},
+		{g, same, [][]int{{0}, {1}, {0}, {}}, api.ReduceFault{}, api.OK}, {g, same, [][]int{{0, 1}, {1}, {0}, {}}, api.ReduceFault{}, api.OK}, {g, odd, [][]int{{0}, {1}, {0}, {}}, api.ReduceFault{State: 0, Rule: 3, Path: []int{0}}, api.ErrBroken}, {g, same, [][]int{{0}, {}, {0}, {}}, api.ReduceFault{State: 1, Rule: 1}, api.ErrBroken}, {less, same, [][]int{{0}, {1}, {}, {}}, api.ReduceFault{State: 0, Rule: 2, Path: []int{0, 1}}, api.ErrBroken},
 		{loops, same, [][]int{{2}, {1, 2}, {0, 2}, {2}}, api.ReduceFault{State: 0, Rule: 4, Path: []int{0, 2, 0}}, api.ErrBroken}, {loops, same, [][]int{{0}, {1}, {0}, {2}}, api.ReduceFault{}, api.OK}, {far, same, [][]int{{1}, {}, {0, 2}, {1}}, api.ReduceFault{}, api.OK}, {g, same, [][]int{{0}, {1}, {0}}, api.ReduceFault{}, api.ErrShape}, {g, same, [][]int{{1, 0}, {1}, {0}, {}}, api.ReduceFault{}, api.ErrOrder}, {g, same, [][]int{{2}, {1}, {0}, {}}, api.ReduceFault{}, api.ErrMissing}, {g, same[:3], nil, api.ReduceFault{}, api.ErrShape}, {api.Graph{States: -1}, nil, nil, api.ReduceFault{}, api.ErrForm},
 	} {
 		f, err := CheckChoice(c.g, c.labels, c.choice)
@@ -111,6 +112,97 @@ func TestChoices(t *testing.T) {
 	_, e2 := ReducedBy(api.Graph{States: 61}, nil)
 	if e1 != api.ErrShape || e2 != api.ErrLarge {
 		t.Error(e1, e2)
+	}
+}
+
+func TestPathsToDependentActions(t *testing.T) {
+	for i, c := range []struct {
+		edges  []api.Edge
+		choice [][]int
+		path   []int
+	}{
+		{edges(0, 0, 1, 0, 1, 0), [][]int{{0}, {}, {}, {}, {}}, []int{0, 1}},
+		{edges(0, 1, 0, 0, 2, 1, 1, 3, 1), [][]int{{0}, {1}, {}, {}, {}}, []int{0, 1}},
+		{edges(0, 1, 2, 0, 4, 0, 1, 2, 1, 1, 3, 1, 1, 4, 0), [][]int{{0}, {0, 1}, {}, {}, {}}, []int{0, 2}},
+		{edges(0, 1, 2, 0, 2, 0, 1, 3, 0, 1, 4, 1, 2, 3, 2, 3, 4, 1, 3, 4, 2), [][]int{{0}, {0, 1}, {2}, {1, 2}, {}}, []int{0, 2, 1, 1}},
+	} {
+		g := api.Graph{States: 5, Init: []int{0}, Edges: c.edges}
+		f, err := CheckChoice(g, make([]int, 5), c.choice)
+		if f.State != 0 || f.Rule != 2 || !slices.Equal(f.Path, c.path) || err != api.ErrBroken {
+			t.Errorf("%d: %v %d", i, f, err)
+		}
+	}
+}
+
+// listedPath lists the paths from a state by their lengths, and takes the least one that breaks rule 2.
+func listedPath(g api.Graph, s int, chosen []int) []int {
+	independent, _ := IndependentIn(g)
+	paths := [][]int{{s}}
+	for range g.States {
+		var longer, found [][]int
+		for _, p := range paths {
+			for _, e := range g.Edges {
+				if e.From != p[len(p)-1] || slices.Contains(chosen, e.Action) {
+					continue
+				}
+				p := append(slices.Clone(p), e.Action)
+				if slices.ContainsFunc(chosen, func(a int) bool { return !slices.Contains(independent[a], e.Action) }) {
+					found = append(found, p)
+				}
+				longer = append(longer, append(slices.Clone(p), e.To))
+			}
+		}
+		if len(found) > 0 {
+			return slices.MinFunc(found, slices.Compare)
+		}
+		paths = longer
+	}
+	return nil
+}
+
+func TestPathsByChance(t *testing.T) {
+	r := rand.New(rand.NewSource(19))
+	longest := 0
+	for range 3000 {
+		// a counter, and another one with an action for each of its steps, with some steps left out or added
+		g := api.Graph{States: 12}
+		for s := range g.States {
+			if s < 8 && r.Intn(12) > 0 {
+				g.Edges = append(g.Edges, api.Edge{From: s, To: s + 4, Action: r.Intn(20) / 19})
+			}
+			if s%4 < 3 && r.Intn(12) > 0 {
+				g.Edges = append(g.Edges, api.Edge{From: s, To: s + 1, Action: 1 + s%4})
+			}
+			if r.Intn(12) == 0 {
+				g.Edges = append(g.Edges, api.Edge{From: s, To: r.Intn(12), Action: r.Intn(4)})
+			}
+		}
+		slices.SortFunc(g.Edges, walks.CompareEdges)
+		g.Edges = slices.Compact(g.Edges)
+		enabled := make([][]int, g.States)
+		for _, e := range g.Edges {
+			enabled[e.From] = append(enabled[e.From], e.Action)
+		}
+		for s := range enabled {
+			slices.Sort(enabled[s])
+			enabled[s] = slices.Compact(enabled[s])
+		}
+		for s, all := range enabled {
+			if len(all) < 2 {
+				continue
+			}
+			c := slices.Clone(enabled)
+			c[s] = all[:1]
+			f, err := CheckChoice(g, make([]int, g.States), c)
+			path := listedPath(g, s, all[:1])
+			if broken := err == api.ErrBroken && f.Rule == 2; broken != (path != nil) || broken && (f.State != s || !slices.Equal(f.Path, path)) {
+				t.Fatal(g, c, f, err, path)
+			}
+			longest = max(longest, len(path))
+		}
+	}
+	if longest < 6 {
+		t.Error("no long paths:", longest)
 	}
 }
 
