@@ -74,7 +74,9 @@ func TestPrograms(t *testing.T) {
 	one := func(s string) string { return "--algorithm C " + s + " end algorithm" }
 	process := func(s string) string { return one("process p " + s + " begin A: skip; end process;") }
 	for s, want := range map[string]api.Errno{
-		one("variables c = 1; begin A: skip;"): api.ErrExists, one("begin A: with c = 1 do skip; end with;"): api.ErrExists, one("define D == zz end define; begin A: skip;"): api.ErrMissing, one("define D(u) == u + c + Nat end define; begin A: skip;"): api.OK, one("variables l = 0; procedure P(n) begin I: return; end procedure; begin A: skip;"): api.OK,
+		one("variables c = 1; begin A: skip;"): api.ErrExists, one("begin A: with c = 1 do skip; end with;"): api.ErrExists,
+		one("macro m() begin with c = 1 do skip; end with; end macro; begin A: skip;"): api.ErrExists, one("macro m() begin if TRUE then with w = 1 do with c \\in {w} do skip; end with; end with; end if; end macro; begin A: skip;"): api.ErrExists, one("macro m() begin with c = 1 do skip; end with; end macro; begin A: m();"): api.ErrExists, one("macro m(c) begin with w = c do skip; end with; end macro; begin A: m(3);"): api.OK, one("macro c() begin skip; end macro; begin A: skip;"): api.ErrExists, one("procedure P() begin B: with c = 1 do skip; end with; return; end procedure; begin A: skip;"): api.ErrExists, one("process p = 1 begin A: with c = 1 do skip; end with; end process;"): api.ErrExists,
+		one("define D == zz end define; begin A: skip;"): api.ErrMissing, one("define D(u) == u + c + Nat end define; begin A: skip;"): api.OK, one("variables l = 0; procedure P(n) begin I: return; end procedure; begin A: skip;"): api.OK,
 		one("variables a1, a2, a3, a4, a5, a6, a7, a8; begin A: skip;"): api.ErrLarge, process("\\in {1, 2}"): api.OK, process("\\in 5"): api.ErrType, process("= zz"): api.ErrMissing, process("\\in 1 .. 7"): api.ErrLarge, process("\\in {}"): api.ErrEmpty, one("process p = 1 begin A: skip; end process; process q \\in {1, 2} begin B: skip; end process;"): api.ErrExists, one("define c == 1 end define; begin A: skip;"): api.ErrExists, process("\\in Nat"): api.ErrUnbounded,
 	} {
 		p := program(t, s)

@@ -104,16 +104,25 @@ func boundBy(l []api.PlusStmt) []string {
 	return out
 }
 
+// boundIn are the names that PlusWiths bind in any part of an algorithm, in its macros, too.
+func boundIn(a api.Algorithm) []string {
+	out := boundBy(a.Body)
+	for _, m := range a.Macros {
+		out = append(out, boundBy(m.Body)...)
+	}
+	for _, p := range a.Procedures {
+		out = append(out, boundBy(p.Body)...)
+	}
+	for _, p := range a.Processes {
+		out = append(out, boundBy(p.Body)...)
+	}
+	return out
+}
+
 // checkConstants looks at the names of constants, and at those in definitions.
-func checkConstants(p api.PlusProgram, a api.Algorithm) api.Errno {
-	taken := append(namesOf(p.Algorithm), "self", "pc", "stack", none)
-	taken = append(taken, boundBy(a.Body)...)
-	for _, q := range a.Procedures {
-		taken = append(taken, boundBy(q.Body)...)
-	}
-	for _, q := range a.Processes {
-		taken = append(taken, boundBy(q.Body)...)
-	}
+func checkConstants(p api.PlusProgram) api.Errno {
+	a := p.Algorithm
+	taken := slices.Concat(namesOf(a), boundIn(a), []string{"self", "pc", "stack", none})
 	known := []string{"Nat", "Int", "Seq"}
 	for _, b := range p.Constants {
 		if slices.Contains(taken, b.Name) {
@@ -147,7 +156,7 @@ func systemOf(p api.PlusProgram) (*system, api.Errno) {
 	if _, err := eval.CheckContext(api.Context{Values: p.Constants, Defs: a.Defs}); err != api.OK {
 		return nil, err
 	}
-	if err := checkConstants(p, a); err != api.OK {
+	if err := checkConstants(p); err != api.OK {
 		return nil, err
 	}
 	s := &system{Algorithm: a, constants: p.Constants, concurrent: len(a.Processes) > 0}
