@@ -120,6 +120,69 @@ func itoa(n int) string {
 	return string(rune('0'+n/10)) + string(rune('0'+n%10))
 }
 
+// all of an action is gone through before what comes behind it, and before it is asked whether all is assigned
+func TestAllIsGoneThrough(t *testing.T) {
+	s := spec(t, "x", "x = 0", "TRUE", "A == (TRUE \\/ 1) /\\ TRUE", "v == x' = 1 \\/ 1")
+	for e, want := range map[string]struct {
+		at  int
+		err api.Errno
+	}{
+		`TRUE \/ 1`: {1, api.ErrType}, `(x' = 1 \/ 1) /\ 2`: {4, api.ErrType}, `(TRUE \/ x' = 1) /\ 2`: {6, api.ErrType}, `TRUE \/ x' = 1`: {5, api.ErrUnassigned}, `x' = 1 \/ TRUE`: {5, api.ErrUnassigned}, `(x' = 1 /\ TRUE) \/ TRUE`: {7, api.ErrUnassigned}, `(\E i \in {1, 2} : x' = 2 \div (2 - i)) /\ 1`: {9, api.ErrZero}, `(\E i \in {1, 2} : TRUE) /\ zz`: {5, api.ErrMissing},
+		`<<x' = 1 \/ x' = 2 \div 0>>_zz`: {8, api.ErrZero}, `<<x' = 1>>_zz`: {4, api.ErrMissing}, `[TRUE]_zz`: {1, api.ErrMissing}, `[TRUE]_x`: {2, api.ErrUnassigned}, `(x' \in {1, 2} \/ 1 \div 0) /\ 1`: {8, api.ErrZero}, "A": {0, api.ErrType}, "A /\\ zz": {0, api.ErrType}, "v /\\ 2": {0, api.ErrType}, `IF TRUE THEN TRUE \/ 1 ELSE TRUE`: {2, api.ErrType}, `LET a == TRUE \/ 1 IN a`: {1, api.ErrType}, `(TRUE \/ 1) \cdot (x' = 1)`: {1, api.ErrType}, `(x' = 1) \cdot (TRUE \/ 1)`: {5, api.ErrType}, `(x' = 1 \/ TRUE) \cdot (x' = 1)`: {5, api.ErrUnassigned}, `(x' = 1) \cdot (TRUE \/ x' = 1)`: {9, api.ErrUnassigned},
+		`(UNCHANGED <<x, 1 \div 0>> \/ 2) /\ 3`: {3, api.ErrZero}, `((TRUE \/ 1) /\ x' = 1) /\ 2`: {1, api.ErrType}, `TRUE /\ (TRUE \/ 1)`: {2, api.ErrType}, `x' = 1 /\ ((x' = 1 \/ 1) \/ 2)`: {8, api.ErrType},
+	} {
+		l, at, err := Successors(s, state(t, "0"), expr(t, e))
+		if len(l) != 0 || at != want.at || err != want.err {
+			t.Errorf("%s: %v %d %d", e, l, at, err)
+		}
+		if _, at, err := EnabledIn(s, state(t, "0"), expr(t, e)); at != want.at || err != want.err {
+			t.Errorf("EnabledIn %s: %d %d", e, at, err)
+		}
+		if _, at, err := HoldsAt(s, state(t, "0"), expr(t, "ENABLED ("+e+")")); at != want.at || err != want.err {
+			t.Errorf("ENABLED %s: %d %d", e, at, err)
+		}
+		if _, at, err := HoldsFor(s, api.StatePair{From: state(t, "0"), To: state(t, "1")}, expr(t, "("+e+`) \cdot TRUE`)); at != want.at || err != want.err {
+			t.Errorf("%s in a step: %d %d", e, at, err)
+		}
+	}
+	for e, at := range map[string]int{`TRUE \/ 1`: 1, `(x = 1 \/ 1) /\ 2`: 3, `A`: 0, `LET a == x = 1 \/ 1 IN a /\ 2`: 3} {
+		s.Init = expr(t, e)
+		if _, place, err := FirstStates(s); place != at || err != api.ErrType {
+			t.Errorf("first %s: %d %d", e, place, err)
+		}
+	}
+	for e, at := range map[string]int{"A": 0, `(x' = 1 /\ (TRUE \/ 1)) \/ A`: 5, "x' = 1 \\/ A": 0} {
+		s.Next = expr(t, e)
+		if _, place, err := StepsFrom(s, state(t, "0")); place != at || err != api.ErrType {
+			t.Errorf("steps %s: %d %d", e, place, err)
+		}
+	}
+}
+
+// where very many lists are given no state and no error is lost
+func TestManyLists(t *testing.T) {
+	s := spec(t, "x", "x = 0", "TRUE")
+	for e, want := range map[string]string{
+		`\E i \in 1 .. 300 : x' \in 1 .. 99`: "#99", `\E i \in 1 .. 300 : x' \in 1 .. 101`: "?2", `x' \in [1 .. 3 -> 1 .. 32]`: "?2", `x' \in [1 .. 3 -> 1 .. 32] \/ TRUE`: "?24", `TRUE \/ x' \in [1 .. 3 -> 1 .. 32]`: "?24", `x' = <<32, 32, 32>> /\ ((x' = 1) \cdot (x' \in [1 .. 3 -> 1 .. 32]))`: "#1", `x' = <<33, 32, 32>> /\ ((x' = 1) \cdot (x' \in [1 .. 3 -> 1 .. 32]))`: "#0", `x' = <<32, 32, 32>> /\ ((x' = 1) \cdot ((x' = 1) \cdot (x' \in [1 .. 3 -> 1 .. 32])))`: "#1",
+		`x' = <<32, 32, 32>> /\ ((x' = 1) \cdot (x' \in [1 .. 3 -> 1 .. 32] \/ TRUE))`: "?24", `x' \in 1 .. 1500 /\ x' > 1450`: "#50",
+	} {
+		l, _, err := Successors(s, state(t, "4"), expr(t, e))
+		got := "#" + itoa(len(l))
+		if err != api.OK {
+			got = "?" + itoa(int(err))
+		}
+		if got != want {
+			t.Errorf("%s: %s", e, got)
+		}
+	}
+	pair := api.StatePair{From: state(t, "0"), To: state(t, "1")}
+	for e, want := range map[string]bool{`(x' \in SUBSET (1 .. 15)) \cdot (x = {})`: true, `(x' \in [1 .. 3 -> 1 .. 32] \/ x' = <<0, 0, 0>>) \cdot (x[1] = 0)`: true} {
+		if is, _, err := HoldsFor(s, pair, expr(t, e)); is != want || err != api.OK {
+			t.Errorf("%s: %v %d", e, is, err)
+		}
+	}
+}
+
 func TestTwoVariables(t *testing.T) {
 	s := spec(t, "x y", "x = 0 /\\ y = 0", "TRUE", "F(a, b) == a' = b")
 	for e, want := range map[string]string{`\E i \in 1 .. 2 : x' = i /\ y' = x' + i`: "1;2 2;4", `y' = x' /\ x' = 1`: "?24", `x' = 1 /\ y' = x'`: "1;1", "UNCHANGED <<x, y>>": "4;7", "x' = 1": "?24", "FALSE /\\ x' = 1": "", "<<x' = 1 /\\ y' = 2>>_<<x, y>>": "1;2", "[FALSE]_<<x, y>>": "4;7", `x' = 1 /\ (y' = 1 \/ y' = 2)`: "1;1 1;2", "y' = 1 /\\ F(x, 2)": "?24", "[x' = 1]_x": "?24",

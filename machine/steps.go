@@ -10,7 +10,7 @@ import (
 )
 
 // maxGiven is how many assignments are given when ErrFuel is permitted.
-const maxGiven = 1000000
+const maxGiven = 300000
 
 // needsTwo fails at a node where a second state may not be asked.
 func (m *Machine) needsTwo(t *exprs.Tree, e scene) {
@@ -25,7 +25,7 @@ func (m *Machine) overStates(t *exprs.Tree, e scene) api.Value {
 		if m.mode != OneState && m.mode != TwoStates || m.primed {
 			fail(t, e, api.ErrLevel)
 		}
-		return values.Bool(len(m.after(t.Kids[0], e, m.states[0])) > 0)
+		return values.Bool(len(m.after(t.Kids[0], e, m.states[0], nil)) > 0)
 	}
 	m.needsTwo(t, e)
 	switch t.Text {
@@ -35,7 +35,7 @@ func (m *Machine) overStates(t *exprs.Tree, e scene) api.Value {
 		return values.Bool(m.unchanged(t.Kids[0], e))
 	}
 	second := m.states[1]
-	for _, x := range m.after(t.Kids[0], e, m.states[0]) {
+	for _, x := range m.after(t.Kids[0], e, m.states[0], nil) {
 		holds := false
 		m.within(pointers(x, len(x)), second, func() { holds = m.truth(t.Kids[1], e) })
 		if holds {
@@ -78,94 +78,107 @@ func (m *Machine) within(first, second []*api.Value, run func()) {
 }
 
 // after is the successors of a state by an action, ascending, each once.
-func (m *Machine) after(t *exprs.Tree, e scene, first []*api.Value) []api.State {
+func (m *Machine) after(t *exprs.Tree, e scene, first []*api.Value, wanted assignment) []api.State {
 	var out []api.State
-	m.within(first, pointers(nil, len(first)), func() { out = m.gathered(t, e, &m.states[1]) })
+	m.within(first, pointers(nil, len(first)), func() { out = m.gathered(t, e, wanted) })
 	return out
 }
 
-// gathered goes through a node, and gathers the states that are assigned.
-func (m *Machine) gathered(t *exprs.Tree, e scene, target *[]*api.Value) []api.State {
-	var out []api.State
-	m.through(t, e, func() {
-		x := make(api.State, len(*target))
-		for i, v := range *target {
-			if v == nil {
-				fail(t, e, api.ErrUnassigned)
-			}
-			x[i] = *v
-		}
-		m.given++
-		if m.given > maxGiven && m.Steps > api.MaxActionSteps {
-			fail(t, e, api.ErrFuel)
-		}
-		if at, is := slices.BinarySearchFunc(out, x, values.CompareStates); !is {
-			out = slices.Insert(out, at, x)
-		}
-	})
-	return out
+// gathered goes through a node, and gathers the states that are assigned; all of it has been gone through before it is asked whether all variables are assigned.
+func (m *Machine) gathered(t *exprs.Tree, e scene, wanted assignment) []api.State {
+	g := &gathering{wanted: wanted}
+	m.through(t, e, g)
+	if g.open {
+		fail(t, e, api.ErrUnassigned)
+	}
+	return g.states()
 }
 
 // After is the successors of the first state by an action.
 func (m *Machine) After(e api.Expr) []api.State {
-	return m.after(exprs.Grow(e), scene{place: api.None}, m.states[0])
+	return m.after(exprs.Grow(e), scene{place: api.None}, m.states[0], nil)
 }
 
 // Begin is the states that Init assigns.
 func (m *Machine) Begin(e api.Expr) []api.State {
-	return m.gathered(exprs.Grow(e), scene{place: api.None}, &m.states[0])
+	return m.gathered(exprs.Grow(e), scene{place: api.None}, nil)
+}
+
+// target is what is assigned: the first state, or the second one.
+func (m *Machine) target() assignment {
+	if m.mode == TwoStates {
+		return m.states[1]
+	}
+	return m.states[0]
 }
 
 // assigns returns the variable that a node assigns, which is not assigned yet, or None.
 func (m *Machine) assigns(t *exprs.Tree, e scene) int {
-	side := 0
 	if m.mode == TwoStates {
 		if t.Kind != api.ExprApply || t.Text != "'" {
 			return api.None
 		}
-		t, side = t.Kids[0], 1
+		t = t.Kids[0]
 	}
 	if t.Kind != api.ExprName {
 		return api.None
 	}
 	x, is := m.lookup(t.Text, e)
-	if !is || x.variable == api.None || m.states[side][x.variable] != nil {
+	if !is || x.variable == api.None || m.target()[x.variable] != nil {
 		return api.None
 	}
 	return x.variable
 }
 
-// assigned goes on with a variable assigned.
-func (m *Machine) assigned(variable int, v api.Value, more func()) {
-	side := 0
-	if m.mode == TwoStates {
-		side = 1
+// give gives what is assigned now, as a list of its own.
+func (m *Machine) give(t *exprs.Tree, e scene, out *gathering) {
+	m.given++
+	if m.given > maxGiven && m.Steps > api.MaxActionSteps {
+		fail(t, e, api.ErrFuel)
 	}
-	target := m.states[side]
+	out.add(m.target())
+}
+
+// assigned gives a list with a variable assigned.
+func (m *Machine) assigned(variable int, v api.Value, t *exprs.Tree, e scene, out *gathering) {
+	target := m.target()
 	target[variable] = &v
-	more()
+	m.give(t, e, out)
 	target[variable] = nil
 }
 
-// through goes through a node, and goes on with each list of assignments.
-func (m *Machine) through(t *exprs.Tree, e scene, more func()) {
+// behind goes through one node, and when it has given its lists through another one for each of them.
+func (m *Machine) behind(first func(out *gathering), then func()) {
+	g := &gathering{}
+	first(g)
+	target := m.target()
+	before := slices.Clone(target)
+	for _, l := range g.lists() {
+		copy(target, l)
+		then()
+	}
+	copy(target, before)
+}
+
+// through goes through a node, and gives lists of assignments.
+func (m *Machine) through(t *exprs.Tree, e scene, out *gathering) {
 	m.step(t, e)
 	switch t.Kind {
 	case api.ExprSome:
 		m.eachChoice(t, e, func(inner scene, _ []api.Value) bool {
-			m.through(t.Kids[len(t.Kids)-1], inner, more)
+			m.through(t.Kids[len(t.Kids)-1], inner, out)
 			return true
 		})
 		return
 	case api.ExprBox, api.ExprAngle:
-		m.throughSubscripted(t, e, more)
+		m.throughSubscripted(t, e, out)
 		return
 	case api.ExprApply:
-		if m.throughApplied(t, e, more) {
+		if m.throughApplied(t, e, out) {
 			return
 		}
 	}
-	if m.followed(t, e, m.through, more) {
+	if m.followed(t, e, m.through, out) {
 		return
 	}
 	v := m.valueOf(t, e)
@@ -173,130 +186,125 @@ func (m *Machine) through(t *exprs.Tree, e scene, more func()) {
 		fail(t, e, api.ErrType)
 	}
 	if v.N == 1 {
-		more()
+		m.give(t, e, out)
 	}
 }
 
-// followed goes on to what a node stands for; what comes behind it is as deep as the node.
-func (m *Machine) followed(t *exprs.Tree, e scene, through func(*exprs.Tree, scene, func()), more func()) bool {
-	depth := m.depth
+// followed goes on to what a node stands for.
+func (m *Machine) followed(t *exprs.Tree, e scene, through func(*exprs.Tree, scene, *gathering), out *gathering) bool {
 	_, is := follow(m, t, e, func(body *exprs.Tree, inner scene) bool {
-		through(body, inner, func() {
-			before := m.depth
-			m.depth = depth
-			more()
-			m.depth = before
-		})
+		through(body, inner, out)
 		return true
 	})
 	return is
 }
 
 // throughApplied goes through an operator that gives assignments.
-func (m *Machine) throughApplied(t *exprs.Tree, e scene, more func()) bool {
+func (m *Machine) throughApplied(t *exprs.Tree, e scene, out *gathering) bool {
 	switch t.Text {
 	case `/\`:
-		m.through(t.Kids[0], e, func() { m.through(t.Kids[1], e, more) })
+		m.behind(func(g *gathering) { m.through(t.Kids[0], e, g) }, func() { m.through(t.Kids[1], e, out) })
 	case `\/`:
-		m.through(t.Kids[0], e, more)
-		m.through(t.Kids[1], e, more)
+		m.through(t.Kids[0], e, out)
+		m.through(t.Kids[1], e, out)
 	case "=":
 		x := m.assigns(t.Kids[0], e)
 		if x == api.None {
 			return false
 		}
-		m.assigned(x, m.value(t.Kids[1], e), more)
+		m.assigned(x, m.value(t.Kids[1], e), t, e, out)
 	case `\in`:
 		x := m.assigns(t.Kids[0], e)
 		if x == api.None {
 			return false
 		}
-		m.throughMembers(x, t.Kids[1], e, more)
+		m.throughMembers(x, t.Kids[1], e, out)
 	case "UNCHANGED":
 		m.needsTwo(t, e)
-		m.throughUnchanged(t.Kids[0], e, more)
+		m.throughUnchanged(t.Kids[0], e, out)
 	case `\cdot`:
 		m.needsTwo(t, e)
-		m.throughBoth(t, e, more)
+		m.throughBoth(t, e, out)
 	default:
 		return false
 	}
 	return true
 }
 
-// throughMembers assigns each member of a set. Of more than there are steps no use is made: behind them something would be evaluated, or they are too many.
-func (m *Machine) throughMembers(x int, t *exprs.Tree, e scene, more func()) {
+// throughMembers assigns each member of a set. Of more than there are steps no use is made, but of one that is wanted: behind them something would be evaluated, or they are too many.
+func (m *Machine) throughMembers(x int, t *exprs.Tree, e scene, out *gathering) {
 	l, n := m.counted(t, e)
-	for at := range min(n, api.MaxEvalSteps+1) {
+	for at := range min(n, maxLists) {
 		v, err := lazy.MemberAt(l, at)
 		check(t, e, err)
-		m.assigned(x, v, more)
+		m.assigned(x, v, t, e, out)
+	}
+	if n <= maxLists || out.wanted == nil || out.wanted[x] == nil {
+		return
+	}
+	if is, _ := lazy.Contains(l, *out.wanted[x]); is {
+		m.assigned(x, *out.wanted[x], t, e, out)
 	}
 }
 
 // throughUnchanged goes through UNCHANGED of a node.
-func (m *Machine) throughUnchanged(t *exprs.Tree, e scene, more func()) {
+func (m *Machine) throughUnchanged(t *exprs.Tree, e scene, out *gathering) {
 	if t.Kind == api.ExprName {
 		if x, is := m.lookup(t.Text, e); is && x.variable != api.None && m.states[1][x.variable] == nil {
 			m.step(t, e)
-			m.assigned(x.variable, m.variable(x.variable, t, e), more)
+			m.assigned(x.variable, m.variable(x.variable, t, e), t, e, out)
 			return
 		}
 	}
 	if t.Kind == api.ExprTuple {
 		m.step(t, e)
-		m.throughItems(t.Kids, e, more)
+		m.throughItems(t.Kids, t, e, out)
 		return
 	}
 	if m.operatorAt(t, e) != nil {
 		m.step(t, e)
-		m.followed(t, e, m.throughUnchanged, more)
+		m.followed(t, e, m.throughUnchanged, out)
 		return
 	}
 	if m.unchanged(t, e) {
-		more()
+		m.give(t, e, out)
 	}
 }
 
-// throughItems goes through UNCHANGED of nodes, one after the other.
-func (m *Machine) throughItems(l []*exprs.Tree, e scene, more func()) {
+// throughItems goes through UNCHANGED of the items of a tuple, one after the other.
+func (m *Machine) throughItems(l []*exprs.Tree, t *exprs.Tree, e scene, out *gathering) {
 	if len(l) == 0 {
-		more()
+		m.give(t, e, out)
 		return
 	}
-	m.throughUnchanged(l[0], e, func() { m.throughItems(l[1:], e, more) })
+	m.behind(func(g *gathering) { m.throughUnchanged(l[0], e, g) }, func() { m.throughItems(l[1:], t, e, out) })
 }
 
 // throughSubscripted goes through [A]_v or <<A>>_v.
-func (m *Machine) throughSubscripted(t *exprs.Tree, e scene, more func()) {
+func (m *Machine) throughSubscripted(t *exprs.Tree, e scene, out *gathering) {
 	m.needsTwo(t, e)
 	if t.Kind == api.ExprBox {
-		m.through(t.Kids[0], e, more)
-		m.throughUnchanged(t.Kids[1], e, more)
+		m.through(t.Kids[0], e, out)
+		m.throughUnchanged(t.Kids[1], e, out)
 		return
 	}
-	m.through(t.Kids[0], e, func() {
+	m.behind(func(g *gathering) { m.through(t.Kids[0], e, g) }, func() {
 		if !m.unchanged(t.Kids[1], e) {
-			more()
+			m.give(t, e, out)
 		}
 	})
 }
 
 // throughBoth goes through A \cdot B.
-func (m *Machine) throughBoth(t *exprs.Tree, e scene, more func()) {
-	target := m.states[1]
+func (m *Machine) throughBoth(t *exprs.Tree, e scene, out *gathering) {
+	target := m.target()
 	before := slices.Clone(target)
-	for _, between := range m.after(t.Kids[0], e, m.states[0]) {
-		for _, x := range m.after(t.Kids[1], e, pointers(between, len(between))) {
-			fits := true
-			for i, v := range before {
-				fits = fits && (v == nil || values.Same(*v, x[i]))
-			}
-			if fits {
-				copy(target, pointers(x, len(x)))
-				more()
-				copy(target, before)
-			}
+	wanted := before.or(out.wanted)
+	for _, between := range m.after(t.Kids[0], e, m.states[0], nil) {
+		for _, x := range m.after(t.Kids[1], e, pointers(between, len(between)), wanted) {
+			copy(target, pointers(x, len(x)))
+			m.give(t, e, out)
+			copy(target, before)
 		}
 	}
 }

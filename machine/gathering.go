@@ -1,0 +1,130 @@
+package machine
+
+import (
+	"cmp"
+	"slices"
+
+	"stutter/api"
+	"stutter/values"
+)
+
+// maxLists is of how many lists use is made at most: behind more of them there would be too many steps.
+const maxLists = api.MaxEvalSteps + 1
+
+// assignment is a value for each variable that is assigned, nil for the others.
+type assignment []*api.Value
+
+// or has the values of another list where there are none.
+func (a assignment) or(other assignment) assignment {
+	out := slices.Clone(a)
+	for i := range other {
+		if out[i] == nil {
+			out[i] = other[i]
+		}
+	}
+	return out
+}
+
+// fits says whether no variable has another value than is wanted.
+func (a assignment) fits(wanted assignment) bool {
+	for i, v := range wanted {
+		if v != nil && a[i] != nil && !values.Same(*v, *a[i]) {
+			return false
+		}
+	}
+	return true
+}
+
+// compare orders lists by their values; what is not assigned comes first.
+func (a assignment) compare(b assignment) int {
+	for i, v := range a {
+		var order int
+		switch {
+		case v == nil && b[i] == nil:
+		case v == nil:
+			order = -1
+		case b[i] == nil:
+			order = 1
+		default:
+			order = values.Compare(*v, *b[i])
+		}
+		if order != 0 {
+			return order
+		}
+	}
+	return 0
+}
+
+// numbered is a list, and how many were given before it.
+type numbered struct {
+	assignment
+	number int
+}
+
+// compareNumbered orders lists by their values, the first one that was given before the others with the same values.
+func compareNumbered(a, b numbered) int {
+	return cmp.Or(a.compare(b.assignment), cmp.Compare(a.number, b.number))
+}
+
+// gathering is the lists of assignments that an action gives: of very many the least ones, which are the first ones in the order of states.
+type gathering struct {
+	wanted assignment // values that the lists must have, if they assign these variables
+	open   bool       // a list was given that does not assign all variables
+	given  int
+	all    []numbered
+	full   bool // all that come behind the last one are left out
+}
+
+// add adds a list, unless it is not wanted.
+func (g *gathering) add(l assignment) {
+	g.open = g.open || slices.Contains(l, nil)
+	if !l.fits(g.wanted) || g.full && g.isUseless(l) {
+		return
+	}
+	g.given++
+	g.all = append(g.all, numbered{slices.Clone(l), g.given})
+	if len(g.all) >= 2*maxLists {
+		g.tidy()
+	}
+}
+
+// isUseless says whether a list comes behind very many, or is one of them.
+func (g *gathering) isUseless(l assignment) bool {
+	at, is := slices.BinarySearchFunc(g.all[:maxLists], l, func(a numbered, b assignment) int { return a.compare(b) })
+	return is || at == maxLists
+}
+
+// tidy puts the lists in the order of their values, each once.
+func (g *gathering) tidy() {
+	slices.SortFunc(g.all, compareNumbered)
+	g.all = slices.CompactFunc(g.all, func(a, b numbered) bool { return a.compare(b.assignment) == 0 })
+	if len(g.all) > maxLists {
+		g.all = g.all[:maxLists]
+	}
+	g.full = len(g.all) == maxLists
+}
+
+// lists are the lists in the order in which they were given, each once.
+func (g *gathering) lists() []assignment {
+	g.tidy()
+	slices.SortFunc(g.all, func(a, b numbered) int { return cmp.Compare(a.number, b.number) })
+	var out []assignment
+	for _, l := range g.all {
+		out = append(out, l.assignment)
+	}
+	return out
+}
+
+// states are the lists as states, ascending, each once; all variables must be assigned.
+func (g *gathering) states() []api.State {
+	g.tidy()
+	var out []api.State
+	for _, l := range g.all {
+		x := make(api.State, len(l.assignment))
+		for i, v := range l.assignment {
+			x[i] = *v
+		}
+		out = append(out, x)
+	}
+	return out
+}
