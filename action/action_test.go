@@ -159,6 +159,33 @@ func TestAllIsGoneThrough(t *testing.T) {
 	}
 }
 
+// ENABLED of an action with too many successors has the error of EnabledIn
+func TestEnabledWithTooMany(t *testing.T) {
+	s := spec(t, "x", "x = 0", "TRUE", `Many == x' \in 1 .. 101`, `On == ENABLED (x' \in 1 .. 101)`, "Can(A) == ENABLED A")
+	x := state(t, "0")
+	for e, at := range map[string]int{`ENABLED (x' \in 0 .. 200)`: 5, "ENABLED Many": 0, "On": 0, "Can(Many)": 1, `x = 0 /\ ENABLED (x' \in 1 .. 101 \/ x' = 0)`: 13, "ENABLED [Many]_x": 2, `LET a == x' \in 1 .. 101 IN ENABLED a`: 6, `ENABLED (ENABLED Many /\ x' = 1)`: 0} {
+		if _, place, err := HoldsAt(s, x, expr(t, e)); place != at || err != api.ErrLarge {
+			t.Errorf("%s: %d %d", e, place, err)
+		}
+		if _, place, err := HoldsFor(s, api.StatePair{From: x, To: x}, expr(t, e)); place != at || err != api.ErrLarge {
+			t.Errorf("in a step %s: %d %d", e, place, err)
+		}
+	}
+	for e, want := range map[string]bool{`x = 1 /\ ENABLED Many`: false, `TRUE \/ ENABLED Many`: true, `ENABLED (x' \in 1 .. 100)`: true, `ENABLED (x' \in 1 .. 100 \/ x' \in 1 .. 100)`: true} {
+		if is, _, err := HoldsAt(s, x, expr(t, e)); is != want || err != api.OK {
+			t.Errorf("%s: %v %d", e, is, err)
+		}
+	}
+	for e, at := range map[string]int{`x' = 1 /\ ENABLED Many`: 4, `(x' = 1) \cdot (ENABLED Many /\ x' = 1)`: 4} {
+		if _, place, err := Successors(s, x, expr(t, e)); place != at || err != api.ErrLarge {
+			t.Errorf("successors %s: %d %d", e, place, err)
+		}
+	}
+	if l, _, err := Successors(s, x, expr(t, `(x' \in 1 .. 101) \cdot (x' = 1)`)); show(l) != "1" || err != api.OK {
+		t.Error(l, err)
+	}
+}
+
 // where very many lists are given no state and no error is lost
 func TestManyLists(t *testing.T) {
 	s := spec(t, "x", "x = 0", "TRUE")

@@ -25,7 +25,7 @@ func (m *Machine) overStates(t *exprs.Tree, e scene) api.Value {
 		if m.mode != OneState && m.mode != TwoStates || m.primed {
 			fail(t, e, api.ErrLevel)
 		}
-		return values.Bool(len(m.after(t.Kids[0], e, m.states[0], nil)) > 0)
+		return values.Bool(m.enabled(t.Kids[0], e))
 	}
 	m.needsTwo(t, e)
 	switch t.Text {
@@ -43,6 +43,15 @@ func (m *Machine) overStates(t *exprs.Tree, e scene) api.Value {
 		}
 	}
 	return values.Bool(false)
+}
+
+// enabled says whether an action has a successor of the first state; it may not have too many, as in action.EnabledIn.
+func (m *Machine) enabled(t *exprs.Tree, e scene) bool {
+	l := m.after(t, e, m.states[0], nil)
+	if len(l) > api.MaxSuccessors {
+		fail(t, e, api.ErrLarge)
+	}
+	return len(l) > 0
 }
 
 // inSecond is the value of a node in the second state.
