@@ -33,6 +33,12 @@ func tried(run func()) (err api.Errno) {
 	return api.OK
 }
 
+// asked is what a method says of the root of a set, or the error with which it ends.
+func asked[T any](s *set, method func(s *set, root int) T) (out T, err api.Errno) {
+	err = tried(func() { out = method(s, len(s.l)-1) })
+	return out, err
+}
+
 // isUnbounded says whether a node is unbounded, whatever its operands contain.
 func (s *set) isUnbounded(node int) bool {
 	n := s.l[node]
