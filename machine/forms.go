@@ -27,8 +27,7 @@ func (m *Machine) valueOf(t *exprs.Tree, e scene) api.Value {
 	case api.ExprName:
 		return m.named(t, e)
 	case api.ExprOld:
-		x, _ := m.lookup("@", e)
-		return *x.value
+		return m.lookup("@", e).valueAt(m, t, e)
 	case api.ExprApply:
 		return m.applied(t, e)
 	case api.ExprTuple:
@@ -67,31 +66,17 @@ func (m *Machine) each(l []*exprs.Tree, e scene) []api.Value {
 
 // named is the value of a name that stands for no expression.
 func (m *Machine) named(t *exprs.Tree, e scene) api.Value {
-	x, is := m.lookup(t.Text, e)
-	switch {
-	case is && x.value != nil:
-		return *x.value
-	case is:
-		return m.variable(x.variable, t, e)
-	case t.Text == "TRUE" || t.Text == "FALSE":
+	if x := m.lookup(t.Text, e); x != nil {
+		return x.valueAt(m, t, e)
+	}
+	switch t.Text {
+	case "TRUE", "FALSE":
 		return values.Bool(t.Text == "TRUE")
-	case t.Text == "Seq":
+	case "Seq":
 		fail(t, e, api.ErrArity)
 	}
 	fail(t, e, api.ErrMissing)
 	return api.Value{}
-}
-
-// variable is the value of a variable in the state that is asked.
-func (m *Machine) variable(i int, t *exprs.Tree, e scene) api.Value {
-	v := m.states[0][i]
-	if m.primed {
-		v = m.states[1][i]
-	}
-	if v == nil {
-		fail(t, e, api.ErrUnassigned)
-	}
-	return *v
 }
 
 // record is a record; its keys ascend.

@@ -32,12 +32,11 @@ type operator struct {
 	atUse   bool
 }
 
-// name is what a name stands for, the innermost one first: a value or an operator.
+// name is a name that is bound around a node, the innermost one first.
 type name struct {
-	text  string
-	value *api.Value
-	op    *operator
-	next  *name
+	text string
+	is   meaning
+	next *name
 }
 
 // scene is where a node stands.
@@ -48,33 +47,32 @@ type scene struct {
 
 // with is a scene with a further name that is a value.
 func (e scene) with(text string, v api.Value) scene {
-	return scene{&name{text: text, value: &v, next: e.names}, e.place}
+	return scene{&name{text, given{&v}, e.names}, e.place}
 }
 
 // Machine evaluates; it counts its steps, and how deep operators are within one another.
 type Machine struct {
-	values map[string]*api.Value
-	vars   map[string]int
-	defs   map[string]*operator
+	known  map[string]meaning // the names that are not bound in the expression
+	vars   int                // how many of them are variables
 	states [2][]*api.Value
 	mode   int
 	primed bool
 	Steps  int
 	depth  int
-	given  int // lists of assignments that were given
+	lists  int // lists of assignments that were given
 }
 
 // New returns a machine for names with values, variables and definitions.
 func New(bindings []api.Binding, vars []string, defs []api.Def) *Machine {
-	m := &Machine{values: map[string]*api.Value{}, vars: map[string]int{}, defs: map[string]*operator{}}
-	for _, b := range bindings {
-		m.values[b.Name] = &b.Value
+	m := &Machine{known: map[string]meaning{}, vars: len(vars)}
+	for _, d := range defs {
+		m.known[d.Name] = &operator{params: d.Params, arities: d.Arities, body: exprs.Grow(d.Body), atUse: true}
 	}
 	for i, v := range vars {
-		m.vars[v] = i
+		m.known[v] = variable(i)
 	}
-	for _, d := range defs {
-		m.defs[d.Name] = &operator{params: d.Params, arities: d.Arities, body: exprs.Grow(d.Body), atUse: true}
+	for _, b := range bindings {
+		m.known[b.Name] = given{&b.Value}
 	}
 	return m
 }
@@ -91,9 +89,9 @@ func pointers(x api.State, many int) []*api.Value {
 // In puts the machine into states.
 func (m *Machine) In(mode int, states ...api.State) *Machine {
 	m.mode, m.primed, m.depth = mode, false, 0
-	m.states = [2][]*api.Value{pointers(nil, len(m.vars)), pointers(nil, len(m.vars))}
+	m.states = [2][]*api.Value{pointers(nil, m.vars), pointers(nil, m.vars)}
 	for i, x := range states {
-		m.states[i] = pointers(x, len(m.vars))
+		m.states[i] = pointers(x, m.vars)
 	}
 	return m
 }

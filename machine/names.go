@@ -6,28 +6,59 @@ import (
 	"stutter/tree"
 )
 
-// meaning is what a name stands for: a value, a variable (its number), or an operator.
-type meaning struct {
-	value    *api.Value
-	variable int
-	op       *operator
+// meaning is what a name stands for: a value, a variable, or an operator.
+type meaning interface {
+	// valueAt is the value of a node that is the name alone.
+	valueAt(m *Machine, t *exprs.Tree, e scene) api.Value
 }
 
-// lookup finds what a name stands for.
-func (m *Machine) lookup(text string, e scene) (meaning, bool) {
+// given is a value.
+type given struct{ value *api.Value }
+
+func (g given) valueAt(*Machine, *exprs.Tree, scene) api.Value { return *g.value }
+
+// variable is the number of a variable; its value is that in the state that is asked.
+type variable int
+
+func (v variable) valueAt(m *Machine, t *exprs.Tree, e scene) api.Value {
+	x := m.states[0][v]
+	if m.primed {
+		x = m.states[1][v]
+	}
+	if x == nil {
+		fail(t, e, api.ErrUnassigned)
+	}
+	return *x
+}
+
+// valueAt fails: an operator has a value only where it is gone on to, with its operands.
+func (o *operator) valueAt(_ *Machine, t *exprs.Tree, e scene) api.Value {
+	fail(t, e, api.ErrArity)
+	return api.Value{}
+}
+
+// lookup finds what a name stands for; nil if nothing.
+func (m *Machine) lookup(text string, e scene) meaning {
 	for n := e.names; n != nil; n = n.next {
 		if n.text == text {
-			return meaning{value: n.value, variable: api.None, op: n.op}, true
+			return n.is
 		}
 	}
-	if v, is := m.values[text]; is {
-		return meaning{value: v, variable: api.None}, true
+	return m.known[text]
+}
+
+// operatorOf is the operator that a name stands for; nil if it stands for something else, or for nothing.
+func (m *Machine) operatorOf(text string, e scene) *operator {
+	o, _ := m.lookup(text, e).(*operator)
+	return o
+}
+
+// variableOf is the number of the variable that a node is, or None.
+func (m *Machine) variableOf(t *exprs.Tree, e scene) int {
+	if v, is := m.lookup(t.Text, e).(variable); is && t.Kind == api.ExprName {
+		return int(v)
 	}
-	if i, is := m.vars[text]; is {
-		return meaning{variable: i}, true
-	}
-	op, is := m.defs[text]
-	return meaning{variable: api.None, op: op}, is
+	return api.None
 }
 
 // isNamed says whether a node is a name, or a name with operands.
@@ -44,17 +75,14 @@ func (m *Machine) operatorAt(t *exprs.Tree, e scene) *operator {
 	if !isNamed(t) {
 		return nil
 	}
-	x, is := m.lookup(t.Text, e)
-	if !is || x.op == nil {
+	o := m.operatorOf(t.Text, e)
+	if o == nil || len(t.Kids) > 0 && o.argument() {
 		return nil
 	}
-	if len(t.Kids) > 0 && x.op.argument() {
-		return nil
-	}
-	if len(x.op.params) != len(t.Kids) {
+	if len(o.params) != len(t.Kids) {
 		fail(t, e, api.ErrArity)
 	}
-	return x.op
+	return o
 }
 
 // argument says whether an operator is an argument that takes none itself.
@@ -71,7 +99,7 @@ func (m *Machine) enter(o *operator, t *exprs.Tree, e scene) scene {
 		if i < len(o.arities) {
 			arity = o.arities[i]
 		}
-		inner.names = &name{text: o.params[i], op: m.passed(k, e, arity, t), next: inner.names}
+		inner.names = &name{o.params[i], m.passed(k, e, arity, t), inner.names}
 	}
 	return inner
 }
@@ -85,8 +113,8 @@ func (m *Machine) passed(k *exprs.Tree, e scene, arity int, use *exprs.Tree) *op
 		return &operator{params: k.Names, arities: make([]int, arity), body: k.Kids[0], names: e.names, place: e.place}
 	}
 	if k.Kind == api.ExprName {
-		if x, is := m.lookup(k.Text, e); is && x.op != nil && len(x.op.params) == arity {
-			out := *x.op
+		if o := m.operatorOf(k.Text, e); o != nil && len(o.params) == arity {
+			out := *o
 			if out.atUse {
 				out.atUse, out.place = false, placeOf(k, e)
 			}
@@ -100,7 +128,7 @@ func (m *Machine) passed(k *exprs.Tree, e scene, arity int, use *exprs.Tree) *op
 // let adds the definition of a LET.
 func let(t *exprs.Tree, e scene) scene {
 	op := &operator{params: t.Names[1:], arities: make([]int, len(t.Names)-1), body: t.Kids[0], names: e.names, place: e.place}
-	n := &name{text: t.Names[0], op: op, next: e.names}
+	n := &name{t.Names[0], op, e.names}
 	if t.N == 1 {
 		op.names = n
 	}

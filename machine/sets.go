@@ -46,7 +46,7 @@ func (m *Machine) unlisted(t *exprs.Tree, e scene) (api.Lazy, bool) {
 
 // builtIn is a set that has a name.
 func (m *Machine) builtIn(t *exprs.Tree, e scene) (api.Lazy, bool) {
-	if _, is := m.lookup(t.Text, e); is {
+	if m.lookup(t.Text, e) != nil {
 		return nil, false
 	}
 	switch t.Text {
@@ -80,7 +80,7 @@ func (m *Machine) unlistedApplied(t *exprs.Tree, e scene) (api.Lazy, bool) {
 	case `\X`:
 		return m.over(t, e, api.LazyProduct), true
 	case "Seq":
-		if _, is := m.lookup(t.Text, e); is {
+		if m.lookup(t.Text, e) != nil {
 			return nil, false
 		}
 		if len(t.Kids) != 1 {

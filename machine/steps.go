@@ -129,20 +129,17 @@ func (m *Machine) assigns(t *exprs.Tree, e scene) int {
 		}
 		t = t.Kids[0]
 	}
-	if t.Kind != api.ExprName {
+	x := m.variableOf(t, e)
+	if x != api.None && m.target()[x] != nil {
 		return api.None
 	}
-	x, is := m.lookup(t.Text, e)
-	if !is || x.variable == api.None || m.target()[x.variable] != nil {
-		return api.None
-	}
-	return x.variable
+	return x
 }
 
 // give gives what is assigned now, as a list of its own.
 func (m *Machine) give(t *exprs.Tree, e scene, out *gathering) {
-	m.given++
-	if m.given > maxGiven && m.Steps > api.MaxActionSteps {
+	m.lists++
+	if m.lists > maxGiven && m.Steps > api.MaxActionSteps {
 		fail(t, e, api.ErrFuel)
 	}
 	out.add(m.target())
@@ -258,12 +255,10 @@ func (m *Machine) throughMembers(x int, t *exprs.Tree, e scene, out *gathering) 
 
 // throughUnchanged goes through UNCHANGED of a node.
 func (m *Machine) throughUnchanged(t *exprs.Tree, e scene, out *gathering) {
-	if t.Kind == api.ExprName {
-		if x, is := m.lookup(t.Text, e); is && x.variable != api.None && m.states[1][x.variable] == nil {
-			m.step(t, e)
-			m.assigned(x.variable, m.variable(x.variable, t, e), t, e, out)
-			return
-		}
+	if x := m.variableOf(t, e); x != api.None && m.states[1][x] == nil {
+		m.step(t, e)
+		m.assigned(x, *m.states[0][x], t, e, out)
+		return
 	}
 	if t.Kind == api.ExprTuple {
 		m.step(t, e)
