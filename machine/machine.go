@@ -99,11 +99,12 @@ func (m *Machine) In(mode int, states ...api.State) *Machine {
 // Try runs what may panic with a fault.
 func Try(run func()) (at int, err api.Errno) {
 	defer func() {
-		if r := recover(); r != nil {
-			at, err = 0, api.ErrForm // a function that the document lists does not panic
-			if f, is := r.(Fault); is {
-				at, err = f.At, f.Err
-			}
+		switch r := recover().(type) {
+		case nil:
+		case Fault:
+			at, err = r.At, r.Err
+		default: // a function that the document lists does not panic
+			at, err = 0, api.ErrForm
 		}
 	}()
 	run()
