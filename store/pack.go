@@ -10,7 +10,7 @@ import (
 
 // packValue is the packed form of a value.
 func packValue(v api.Value) string {
-	text := func(sign string) string { return sign + strconv.Itoa(len(v.S)) + ":" + v.S }
+	text := func(sign string) string { return sign + counted(len(v.S), v.S) }
 	switch v.Kind {
 	case api.ValueBool:
 		if v.N == 1 {
@@ -24,24 +24,26 @@ func packValue(v api.Value) string {
 	case api.ValueModel:
 		return text("m")
 	case api.ValueSet:
-		return "{" + packAll(v.Items) + "}"
+		return "{" + counted(len(v.Items), packAll(v.Items...)) + "}"
 	}
-	var b strings.Builder
-	b.WriteString("[" + strconv.Itoa(len(v.Keys)) + ":")
+	var pairs strings.Builder
 	for i, k := range v.Keys {
-		b.WriteString(packValue(k) + packValue(v.Items[i]))
+		pairs.WriteString(packAll(k, v.Items[i]))
 	}
-	return b.String() + "]"
+	return "[" + counted(len(v.Keys), pairs.String()) + "]"
 }
 
-// packAll is the number of values, and their packed forms.
-func packAll(l []api.Value) string {
-	out := strconv.Itoa(len(l)) + ":"
+// packAll is the packed forms of values, one behind the other.
+func packAll(l ...api.Value) string {
+	var b strings.Builder
 	for _, v := range l {
-		out += packValue(v)
+		b.WriteString(packValue(v))
 	}
-	return out
+	return b.String()
 }
+
+// counted is how many parts follow, and these.
+func counted(many int, parts string) string { return strconv.Itoa(many) + ":" + parts }
 
 // Pack returns the packed form of a state.
 func Pack(s api.State) (string, api.Errno) {
@@ -53,7 +55,7 @@ func Pack(s api.State) (string, api.Errno) {
 			return "", api.ErrForm
 		}
 	}
-	out := packAll(s)
+	out := counted(len(s), packAll(s...))
 	if len(out) > api.MaxPacked {
 		return "", api.ErrLarge
 	}
@@ -152,8 +154,8 @@ func unpackFirst(s string) (api.State, int, bool) {
 		out = append(out, v)
 	}
 	length := len(s) - len(u.text)
-	packed, err := Pack(out)
-	return out, length, u.ok && err == api.OK && packed == s[:length]
+	again, err := Pack(out)
+	return out, length, u.ok && err == api.OK && again == s[:length]
 }
 
 // Unpack returns the state with a packed form.
