@@ -9,11 +9,23 @@ import (
 	"stutter/values"
 )
 
-// ended is how an exploration ends; it panics with it.
-type ended struct {
+// finding is how an exploration ends with what is looked at; with ExploreKept it goes on.
+type finding struct {
 	verdict, index int
 	fault          api.Errno
-	trace          []api.State
+}
+
+// ended is how an exploration ends; it panics with it.
+type ended struct {
+	finding
+	trace []api.State
+}
+
+// watcher looks at what is found.
+type watcher interface {
+	ofState(x api.State) finding
+	ofStep(x api.StatePair) finding
+	ofDeadlock() finding
 }
 
 // worker has the steps of a state that it expands.
@@ -22,14 +34,13 @@ type worker struct {
 	steps []api.SpecStep
 }
 
-// explorer finds states. What is checked of a state that is found, and of a step, is open; so it is used for goals, too.
+// explorer finds states, at which a watcher looks.
 type explorer struct {
 	api.Model
+	watcher
 	out   api.Exploration
 	views []api.Value
 	queue []int
-	ofOne func(x api.State, fail func(verdict, index int, fault api.Errno))
-	steps bool // steps and deadlock are checked
 }
 
 // traceTo is the states over which a state was found, itself last, and perhaps a further one.
@@ -46,9 +57,10 @@ func (x *explorer) traceTo(state int, more ...api.State) []api.State {
 }
 
 // end ends the exploration.
-func (x *explorer) end(verdict, index int, fault api.Errno, trace []api.State) {
-	panic(ended{verdict, index, fault, trace})
-}
+func (x *explorer) end(f finding, trace []api.State) { panic(ended{f, trace}) }
+
+// failed is the end by an error.
+func failed(err api.Errno) finding { return finding{verdict: api.ExploreFailed, fault: err} }
 
 // viewOf is the view of a state; from is the one from which it is reached.
 func (x *explorer) viewOf(s api.State, from int) api.Value {
@@ -57,7 +69,7 @@ func (x *explorer) viewOf(s api.State, from int) api.Value {
 	}
 	v, _, err := action.ValueAt(x.Spec, api.StatePair{From: s, To: s}, x.View)
 	if err != api.OK {
-		x.end(api.ExploreFailed, 0, err, x.traceTo(from, s))
+		x.end(failed(err), x.traceTo(from, s))
 	}
 	return v
 }
@@ -71,13 +83,15 @@ func (x *explorer) find(s api.State, from, by int) int {
 		}
 	}
 	if len(x.out.States) >= x.Most {
-		x.end(api.ExploreFull, 0, api.OK, x.traceTo(from, s))
+		x.end(finding{verdict: api.ExploreFull}, x.traceTo(from, s))
 	}
 	at := len(x.out.States)
 	x.out.States, x.views = append(x.out.States, s), append(x.views, view)
 	x.out.From, x.out.Action = append(x.out.From, from), append(x.out.Action, by)
 	x.queue = append(x.queue, at)
-	x.ofOne(s, func(verdict, index int, fault api.Errno) { x.end(verdict, index, fault, x.traceTo(at)) })
+	if f := x.ofState(s); f.verdict != api.ExploreKept {
+		x.end(f, x.traceTo(at))
+	}
 	return at
 }
 
@@ -85,7 +99,7 @@ func (x *explorer) find(s api.State, from, by int) int {
 func (x *explorer) begin() {
 	first, _, err := action.FirstStates(x.Spec)
 	if err != api.OK {
-		x.end(api.ExploreFailed, 0, err, nil)
+		x.end(failed(err), nil)
 	}
 	for _, s := range first {
 		x.find(s, api.None, 0)
@@ -103,7 +117,7 @@ func (x *explorer) take(w *worker) {
 	if len(x.Constraint) > 0 {
 		holds, _, err := action.HoldsAt(x.Spec, s, x.Constraint)
 		if err != api.OK {
-			x.end(api.ExploreFailed, 0, err, x.traceTo(w.state))
+			x.end(failed(err), x.traceTo(w.state))
 		}
 		if !holds {
 			return
@@ -111,10 +125,10 @@ func (x *explorer) take(w *worker) {
 	}
 	steps, _, err := action.StepsFrom(x.Spec, s)
 	if err != api.OK {
-		x.end(api.ExploreFailed, 0, err, x.traceTo(w.state))
+		x.end(failed(err), x.traceTo(w.state))
 	}
-	if len(steps) == 0 && x.Deadlock && x.steps {
-		x.end(api.ExploreDeadlock, 0, api.OK, x.traceTo(w.state))
+	if f := x.ofDeadlock(); len(steps) == 0 && f.verdict != api.ExploreKept {
+		x.end(f, x.traceTo(w.state))
 	}
 	w.steps = steps
 }
@@ -123,17 +137,9 @@ func (x *explorer) take(w *worker) {
 func (x *explorer) step(w *worker) {
 	next := w.steps[0]
 	w.steps = w.steps[1:]
-	if x.steps {
-		pair := api.StatePair{From: x.out.States[w.state], To: next.To}
-		for i, e := range x.Steps {
-			holds, _, err := action.HoldsFor(x.Spec, pair, e)
-			if err != api.OK {
-				x.end(api.ExploreFailed, 0, err, x.traceTo(w.state, next.To))
-			}
-			if !holds {
-				x.end(api.ExploreStep, i, api.OK, x.traceTo(w.state, next.To))
-			}
-		}
+	pair := api.StatePair{From: x.out.States[w.state], To: next.To}
+	if f := x.ofStep(pair); f.verdict != api.ExploreKept {
+		x.end(f, x.traceTo(w.state, next.To))
 	}
 	to := x.find(next.To, w.state, next.Action)
 	x.out.Edges = append(x.out.Edges, api.Edge{From: w.state, To: to, Action: next.Action})
@@ -142,14 +148,15 @@ func (x *explorer) step(w *worker) {
 // run explores with workers, whose turns a schedule gives.
 func (x *explorer) run(workers int, schedule []int) (out api.Exploration) {
 	defer func() {
-		if r := recover(); r != nil {
-			e, is := r.(ended)
-			if !is { // a function that the document lists does not panic
-				e = ended{verdict: api.ExploreFailed, fault: api.ErrForm}
-			}
-			x.out.Verdict, x.out.Index, x.out.Fault, x.out.Trace = e.verdict, e.index, e.fault, e.trace
-			out = x.finished()
+		switch r := recover().(type) {
+		case nil:
+			return
+		case ended:
+			x.out.Verdict, x.out.Index, x.out.Fault, x.out.Trace = r.verdict, r.index, r.fault, r.trace
+		default: // a function that the document lists does not panic
+			x.out.Verdict, x.out.Fault = api.ExploreFailed, api.ErrForm
 		}
+		out = x.finished()
 	}()
 	x.begin()
 	all := make([]worker, workers)
@@ -181,19 +188,5 @@ func (x *explorer) finished() api.Exploration {
 	return x.out
 }
 
-// explorerOf checks the invariants of a model.
-func explorerOf(m api.Model) *explorer {
-	x := &explorer{Model: m, steps: true}
-	x.ofOne = func(s api.State, fail func(verdict, index int, fault api.Errno)) {
-		for i, e := range m.Invariants {
-			holds, _, err := action.HoldsAt(m.Spec, s, e)
-			if err != api.OK {
-				fail(api.ExploreFailed, 0, err)
-			}
-			if !holds {
-				fail(api.ExploreInvariant, i, api.OK)
-			}
-		}
-	}
-	return x
-}
+// explorerOf looks at the properties of a model.
+func explorerOf(m api.Model) *explorer { return &explorer{Model: m, watcher: properties{m}} }
