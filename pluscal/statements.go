@@ -153,20 +153,16 @@ func (r *reader) inner(word string) []api.PlusStmt {
 // choice reads what is behind "either".
 func (r *reader) choice() api.PlusStmt {
 	s := api.PlusStmt{Kind: api.PlusEither}
-	branch := func() {
-		l := []api.PlusStmt(nil)
-		if r.short {
-			l = r.body()
-		} else {
-			l = r.statements()
-		}
-		s.Blocks = append(s.Blocks, l)
+	branch := r.statements
+	if r.short {
+		branch = r.body
 	}
-	branch()
-	r.take("or")
-	branch()
-	for r.taken("or") {
-		branch()
+	for len(s.Blocks) < 2 || r.is("or") {
+		if len(s.Blocks) > 0 {
+			r.take("or")
+		}
+		l := branch()
+		s.Blocks = append(s.Blocks, l)
 	}
 	if !r.short {
 		r.take("end", "either")
