@@ -37,11 +37,11 @@ func (p *part) frame() []string {
 	return out
 }
 
-// variable is a variable of the program: the part whose own it is (nil: none), how it begins, and on which identities it is a function (nil: it is none).
+// variable is a variable of the program: how it begins, how it is kept, and the part whose own it is (nil: none).
 type variable struct {
 	api.PlusVar
+	keeping
 	own   *part
-	on    []api.Value
 	whole bool // pc and stack are never known by their values for an identity
 }
 
@@ -183,18 +183,18 @@ func systemOf(p api.PlusProgram) (*system, api.Errno) {
 // declare lists the variables, in their order.
 func (s *system) declare(processes []*part) {
 	for _, v := range s.Vars {
-		s.vars = append(s.vars, variable{PlusVar: v})
+		s.vars = append(s.vars, variable{PlusVar: v, keeping: asItIs{}})
 	}
-	s.vars = append(s.vars, variable{PlusVar: api.PlusVar{Name: "pc"}, whole: true})
+	s.vars = append(s.vars, variable{PlusVar: api.PlusVar{Name: "pc"}, keeping: asItIs{}, whole: true})
 	if len(s.procedures) > 0 {
-		s.vars = append(s.vars, variable{PlusVar: api.PlusVar{Name: "stack"}, whole: true})
+		s.vars = append(s.vars, variable{PlusVar: api.PlusVar{Name: "stack"}, keeping: asItIs{}, whole: true})
 	}
 	for _, p := range slices.Concat(s.procedures, processes) {
 		for _, name := range p.params {
-			s.vars = append(s.vars, variable{PlusVar: api.PlusVar{Name: name}, own: p})
+			s.vars = append(s.vars, variable{PlusVar: api.PlusVar{Name: name}, keeping: asItIs{}, own: p})
 		}
 		for _, v := range p.vars {
-			s.vars = append(s.vars, variable{PlusVar: v, own: p})
+			s.vars = append(s.vars, variable{PlusVar: v, keeping: asItIs{}, own: p})
 		}
 	}
 }
@@ -246,12 +246,13 @@ func (s *system) share(processes []*part) {
 		if v.own == nil && !v.whole || process && !v.own.in {
 			continue
 		}
-		v.on = []api.Value{}
+		var on onIdentities
 		for _, x := range s.identities {
 			if !process || x.part == v.own {
-				v.on = append(v.on, x.self)
+				on = append(on, x.self)
 			}
 		}
+		v.keeping = on
 	}
 }
 
@@ -267,29 +268,6 @@ func (s *system) find(self api.Value) (identity, bool) {
 // indexOf is the number of a variable.
 func (s *system) indexOf(name string) int {
 	return slices.IndexFunc(s.vars, func(v variable) bool { return v.Name == name })
-}
-
-// at is the value of a variable for an identity.
-func (v variable) at(x api.Value, self api.Value) api.Value {
-	if v.on == nil {
-		return x
-	}
-	if i, is := values.Find(x.Keys, self); is {
-		return x.Items[i]
-	}
-	return x
-}
-
-// with is the value of a variable with another one for an identity.
-func (v variable) with(x api.Value, self, item api.Value) api.Value {
-	if v.on == nil {
-		return item
-	}
-	out := api.Value{Kind: api.ValueFunc, Keys: x.Keys, Items: slices.Clone(x.Items)}
-	if i, is := values.Find(x.Keys, self); is {
-		out.Items[i] = item
-	}
-	return out
 }
 
 // context is that of expressions in a part, for an identity, in a state that may have the first variables alone. All says that variables of procedures are known, too.
