@@ -170,20 +170,42 @@ func (s *system) own(p *part, e api.Expr) api.Expr {
 	return put(exprs.Grow(e), nil).Flat()
 }
 
-// get is the value of a variable in a part.
-func (s *system) get(p *part, variable string) api.Expr {
-	if s.isShared(p, variable) || s.concurrent && (variable == "pc" || variable == "stack") {
-		return of(api.ExprCall, name(variable), name("self"))
-	}
-	return name(variable)
+// place is where the value of a variable is for an identity.
+type place interface {
+	get() api.Expr
+	set(value api.Expr) api.Expr // what makes it the new value
 }
+
+// alone is a variable that has one value for all.
+type alone string
+
+func (v alone) get() api.Expr { return name(string(v)) }
+
+func (v alone) set(value api.Expr) api.Expr { return apply("=", primed(string(v)), value) }
+
+// item is a variable that is a function on identities: its item for one.
+type item string
+
+func (v item) get() api.Expr { return of(api.ExprCall, name(string(v)), name("self")) }
+
+func (v item) set(value api.Expr) api.Expr {
+	return apply("=", primed(string(v)), except(name(string(v)), name("self"), value))
+}
+
+// place is where the value of a variable is in a part.
+func (s *system) place(p *part, variable string) place {
+	if s.isShared(p, variable) || s.concurrent && (variable == "pc" || variable == "stack") {
+		return item(variable)
+	}
+	return alone(variable)
+}
+
+// get is the value of a variable in a part.
+func (s *system) get(p *part, variable string) api.Expr { return s.place(p, variable).get() }
 
 // set is a variable's new value for an identity.
 func (s *system) set(p *part, variable string, value api.Expr) api.Expr {
-	if s.isShared(p, variable) || s.concurrent && (variable == "pc" || variable == "stack") {
-		value = except(name(variable), name("self"), value)
-	}
-	return apply("=", primed(variable), value)
+	return s.place(p, variable).set(value)
 }
 
 // members is the set of identities of a process.
