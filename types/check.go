@@ -50,22 +50,22 @@ func isOutside(t api.Type) bool {
 
 func isVar(t api.Type) bool { return t.Kind == api.TypeVar }
 
+// fault is what may be wrong with a type, and its error.
+type fault struct {
+	is  func(t api.Type) bool
+	err api.Errno
+}
+
 // CheckType says whether a type is right.
 func CheckType(t api.Type) api.Errno {
 	left := api.MaxTypeNodes
-	switch {
-	case isLarge(t, 1, &left):
+	if isLarge(t, 1, &left) {
 		return api.ErrLarge
-	case within(t, isNoKind):
-		return api.ErrKind
-	case within(t, hasNoShape):
-		return api.ErrShape
-	case within(t, hasNoName):
-		return api.ErrName
-	case within(t, hasNoOrder):
-		return api.ErrOrder
-	case within(t, isOutside):
-		return api.ErrRange
+	}
+	for _, f := range []fault{{isNoKind, api.ErrKind}, {hasNoShape, api.ErrShape}, {hasNoName, api.ErrName}, {hasNoOrder, api.ErrOrder}, {isOutside, api.ErrRange}} {
+		if within(t, f.is) {
+			return f.err
+		}
 	}
 	return api.OK
 }

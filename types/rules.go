@@ -33,10 +33,15 @@ func (e scene) with(name string, t *term) scene {
 	return scene{&binding{name: name, is: t, next: e.names}, e.place}
 }
 
-// visitor goes through expressions. With given types it checks these, and notes the nodes whose rules fail; otherwise it panics with a failure.
-type visitor struct {
+// known is the names that no node binds: given ones with their types, and definitions.
+type known struct {
 	given map[string]*term
 	defs  map[string]api.Def
+}
+
+// visitor goes through expressions. With given types it checks these, and notes the nodes whose rules fail; otherwise it panics with a failure.
+type visitor struct {
+	known
 	types []*term // of the nodes of the expression
 	fixed []*term
 	wrong []int
