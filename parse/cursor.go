@@ -125,11 +125,11 @@ func (c *cursor) followNext() (api.Operator, bool) {
 	return o, err == api.OK && o.Fix != api.FixPrefix
 }
 
-// boundsAhead says whether a "|->" stands before the bracket that closes, in no brackets within.
+// boundsAhead says whether a "|->" stands before the bracket that closes, in no brackets within; what the lists around end is not looked at.
 func (c *cursor) boundsAhead() bool {
 	depth := 0
-	for _, t := range c.list[c.at:] {
-		switch t.Text {
+	for d := *c; d.has(); d.at++ {
+		switch d.list[d.at].Text {
 		case "(", "[", "{", "<<":
 			depth++
 		case ")", "]", "]_", "}", ">>", ">>_":

@@ -74,6 +74,9 @@ func TestParseErrors(t *testing.T) {
 		{deep(59), place(0, 0), api.OK}, {deep(60), place(1, 0), api.ErrLarge}, {"<<a, b>>_v", place(0, 6), api.ErrSyntax}, {"\\A x \\in S, y : p", place(0, 14), api.ErrSyntax}, {"a \\X b \\X c \\X d \\X e", place(0, 0), api.ErrArity}, {"{x \\in }", place(0, 7), api.ErrSyntax},
 		{"CASE OTHER -> a", place(0, 0), api.ErrShape}, {"()", place(0, 1), api.ErrSyntax}, {"F()", place(0, 2), api.ErrSyntax}, {"\\A x, x \\in S : p", place(0, 0), api.ErrDouble}, {"[a EXCEPT b]", place(0, 10), api.ErrSyntax}, {"[a EXCEPT ! = b]", place(0, 12), api.ErrSyntax},
 		{"a ==", place(0, 2), api.ErrSyntax}, {"A!B!C", place(0, 3), api.ErrSyntax}, {"---- a", place(0, 0), api.ErrSyntax}, {"[x, y |-> 3]", place(0, 6), api.ErrSyntax},
+		// a "|->" that a list around ends says nothing of the bracket
+		{"/\\[y\\in v\\in\n|->", place(0, 9), api.ErrClash}, {"/\\[y\\in v\\in", place(0, 9), api.ErrClash}, {"/\\ \\/ [y \\in v \\in\n  |-> 1]", place(0, 15), api.ErrClash}, {"/\\ \\/ [y \\in v \\in w\n   |-> 1]", place(0, 15), api.ErrClash}, {"/\\ \\/ [y \\in v \\in w\n    |-> 1]", place(0, 0), api.OK}, {"/\\ a\n/\\ [y \\in v \\in\n w |-> 1]", place(0, 0), api.OK}, {"/\\ [y, z\n|-> 1]", place(0, 5), api.ErrSyntax}, {"/\\ [y, z", place(0, 5), api.ErrSyntax}, {"/\\ [y \\in S\n|-> 1]", place(1, 0), api.ErrColumn}, {"[y \\in v \\in /\\ w\n|-> 1]", place(0, 0), api.OK},
+		{"/\\ [y \\in v \\in w\n/\\ x |-> 1]", place(0, 12), api.ErrClash}, {"( /\\ [y \\in v \\in w\n) |-> 1]", place(0, 14), api.ErrClash},
 	} {
 		l := strings.Split(c.s, "\n")
 		e, p, err := ParseExpr(l)
