@@ -83,6 +83,20 @@ func TestSubstituted(t *testing.T) {
 			t.Errorf("%s, %s: %v %d", c.e, c.s, l, err)
 		}
 	}
+	// names are renamed, too, in the operands of a name for which no operator can be put
+	for _, c := range []struct {
+		e, s     string
+		captures []int
+	}{
+		{"F(LET F == 0 IN S)", "S <- F; F <- 1", []int{2}}, {`F(\E y \in T : x = y)`, "x <- y; F <- 1 + 1", []int{4}}, {`G(F(\E y : x = y), \A z : x + z)`, "x <- y + z; F <- 1", []int{3, 8}}, {`F(F(\A y : x))`, "x <- y; F <- <<>>", []int{1}}, {"P(LAMBDA u : x + u)", "x <- u; P <- 1", []int{3}}, {`\A y : F(x, \E z : z)`, "x <- z; F <- {y}", []int{4}}, {"F(x)", "x <- y; F <- 1", nil},
+	} {
+		if got, err := Substituted(expr(t, c.e), putOf(t, c.s)); len(got) > 0 || err != api.ErrArity {
+			t.Errorf("%s, %s: %s %d", c.e, c.s, text(got), err)
+		}
+		if l, err := CapturesIn(expr(t, c.e), putOf(t, c.s)); !slices.Equal(l, c.captures) || err != api.OK {
+			t.Errorf("%s, %s: %v %d", c.e, c.s, l, err)
+		}
+	}
 	x, bad := exprs.Name("x"), exprs.Name("1")
 	many := make([]string, 61)
 	for i, c := range []struct {

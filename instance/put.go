@@ -178,13 +178,13 @@ func (p *putter) putName(t *exprs.Tree, x *item, items map[string]*item) *exprs.
 	if by.Kind == api.ExprLambda {
 		return p.applyLambda(t, by, items)
 	}
+	out := exprs.ApplyTree(by.Text)
+	for _, k := range t.Kids { // names in operands are renamed, whatever is put for the operator
+		out.Kids = append(out.Kids, p.put(k, items))
+	}
 	if by.Kind != api.ExprName {
 		p.err = api.ErrArity
 		return by
-	}
-	out := exprs.ApplyTree(by.Text)
-	for _, k := range t.Kids {
-		out.Kids = append(out.Kids, p.put(k, items))
 	}
 	return out
 }
