@@ -2,6 +2,7 @@ package action
 
 import (
 	"slices"
+	"strconv"
 	"strings"
 	"testing"
 
@@ -113,12 +114,7 @@ func TestSuccessors(t *testing.T) {
 	}
 }
 
-func itoa(n int) string {
-	if n < 10 {
-		return string(rune('0' + n))
-	}
-	return string(rune('0'+n/10)) + string(rune('0'+n%10))
-}
+func itoa(n int) string { return strconv.Itoa(n) }
 
 // all of an action is gone through before what comes behind it, and before it is asked whether all is assigned
 func TestAllIsGoneThrough(t *testing.T) {
@@ -192,6 +188,7 @@ func TestManyLists(t *testing.T) {
 	for e, want := range map[string]string{
 		`\E i \in 1 .. 300 : x' \in 1 .. 99`: "#99", `\E i \in 1 .. 300 : x' \in 1 .. 101`: "?2", `x' \in [1 .. 3 -> 1 .. 32]`: "?2", `x' \in [1 .. 3 -> 1 .. 32] \/ TRUE`: "?24", `TRUE \/ x' \in [1 .. 3 -> 1 .. 32]`: "?24", `x' = <<32, 32, 32>> /\ ((x' = 1) \cdot (x' \in [1 .. 3 -> 1 .. 32]))`: "#1", `x' = <<33, 32, 32>> /\ ((x' = 1) \cdot (x' \in [1 .. 3 -> 1 .. 32]))`: "#0", `x' = <<32, 32, 32>> /\ ((x' = 1) \cdot ((x' = 1) \cdot (x' \in [1 .. 3 -> 1 .. 32])))`: "#1",
 		`x' = <<32, 32, 32>> /\ ((x' = 1) \cdot (x' \in [1 .. 3 -> 1 .. 32] \/ TRUE))`: "?24", `x' \in 1 .. 1500 /\ x' > 1450`: "#50",
+		`(x' \in SUBSET (1 .. 15) \/ 1) /\ TRUE`: "?20", `x' \in SUBSET (1 .. 15) /\ 1`: "?20", `x' \in 1 .. 300 \/ 1`: "?20", `x' \in 1 .. 300 \/ TRUE`: "?24", `TRUE \/ x' \in 1 .. 300`: "?24", `\E i \in 1 .. 300 : x' = 301 - i`: "?2", `\E i \in 1 .. 300 : x' = i % 100`: "#100", `\E i \in 1 .. 300 : x' = 300 - (i % 100)`: "#100", `(\E i \in 1 .. 300 : x' = 300 - (i % 101)) /\ x' # 300`: "#100", `\E i \in 1 .. 20 : x' \in (0 - i) .. 30 /\ x' > 0 - 10`: "#40",
 	} {
 		l, _, err := Successors(s, state(t, "4"), expr(t, e))
 		got := "#" + itoa(len(l))

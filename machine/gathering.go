@@ -8,8 +8,11 @@ import (
 	"stutter/values"
 )
 
-// maxLists is of how many lists use is made at most: behind more of them there would be too many steps.
+// maxLists is of how many lists use is made at most, if something is evaluated behind each: behind more of them there would be too many steps.
 const maxLists = api.MaxEvalSteps + 1
+
+// maxTold is how many successors are told apart: more are too many.
+const maxTold = api.MaxSuccessors + 1
 
 // assignment is a value for each variable that is assigned, nil for the others.
 type assignment []*api.Value
@@ -66,48 +69,56 @@ func compareNumbered(a, b numbered) int {
 	return cmp.Or(a.compare(b.assignment), cmp.Compare(a.number, b.number))
 }
 
-// gathering is the lists of assignments that an action gives: of very many the least ones, which are the first ones in the order of states.
+// gathering is the lists of assignments that an action gives, each once.
 type gathering struct {
+	most   int        // of how many lists use is made
+	least  bool       // of more lists use is made of the least ones, otherwise of those that were given first
 	wanted assignment // values that the lists must have, if they assign these variables
 	open   bool       // a list was given that does not assign all variables
+	full   bool       // the first ones of all are as many as are of use
 	given  int
 	all    []numbered
-	full   bool // all that come behind the last one are left out
 }
 
-// add adds a list, unless it is not wanted.
-func (g *gathering) add(l assignment) {
+// add adds a list, if it is of use; false if no list can be that comes behind it in the order of values.
+func (g *gathering) add(l assignment) bool {
 	g.open = g.open || slices.Contains(l, nil)
-	if !l.fits(g.wanted) || g.full && g.isUseless(l) {
-		return
+	switch {
+	case !l.fits(g.wanted):
+		return true
+	case g.full && !g.least:
+		return false
+	case g.full:
+		at, is := slices.BinarySearchFunc(g.all[:g.most], l, func(a numbered, b assignment) int { return a.compare(b) })
+		if is || at == g.most {
+			return is
+		}
 	}
 	g.given++
 	g.all = append(g.all, numbered{slices.Clone(l), g.given})
-	if len(g.all) >= 2*maxLists {
+	if len(g.all) >= 2*g.most {
 		g.tidy()
 	}
+	return true
 }
 
-// isUseless says whether a list comes behind very many, or is one of them.
-func (g *gathering) isUseless(l assignment) bool {
-	at, is := slices.BinarySearchFunc(g.all[:maxLists], l, func(a numbered, b assignment) int { return a.compare(b) })
-	return is || at == maxLists
-}
+func compareNumbers(a, b numbered) int { return cmp.Compare(a.number, b.number) }
 
-// tidy puts the lists in the order of their values, each once.
+// tidy leaves out lists that are there twice, and those that are of no use. What remains is in the order of values, or in that in which it was given.
 func (g *gathering) tidy() {
 	slices.SortFunc(g.all, compareNumbered)
 	g.all = slices.CompactFunc(g.all, func(a, b numbered) bool { return a.compare(b.assignment) == 0 })
-	if len(g.all) > maxLists {
-		g.all = g.all[:maxLists]
+	if !g.least {
+		slices.SortFunc(g.all, compareNumbers)
 	}
-	g.full = len(g.all) == maxLists
+	g.all = g.all[:min(len(g.all), g.most)]
+	g.full = len(g.all) == g.most
 }
 
-// lists are the lists in the order in which they were given, each once.
+// lists are the lists in the order in which they were given.
 func (g *gathering) lists() []assignment {
 	g.tidy()
-	slices.SortFunc(g.all, func(a, b numbered) int { return cmp.Compare(a.number, b.number) })
+	slices.SortFunc(g.all, compareNumbers)
 	var out []assignment
 	for _, l := range g.all {
 		out = append(out, l.assignment)
@@ -118,6 +129,7 @@ func (g *gathering) lists() []assignment {
 // states are the lists as states, ascending, each once; all variables must be assigned.
 func (g *gathering) states() []api.State {
 	g.tidy()
+	slices.SortFunc(g.all, compareNumbered)
 	var out []api.State
 	for _, l := range g.all {
 		x := make(api.State, len(l.assignment))

@@ -35,7 +35,7 @@ func (m *Machine) overStates(t *exprs.Tree, e scene) api.Value {
 		return values.Bool(m.unchanged(t.Kids[0], e))
 	}
 	second := m.states[1]
-	for _, x := range m.after(t.Kids[0], e, m.states[0], nil) {
+	for _, x := range m.after(t.Kids[0], e, m.states[0], inOrder(nil)) {
 		holds := false
 		m.within(pointers(x, len(x)), second, func() { holds = m.truth(t.Kids[1], e) })
 		if holds {
@@ -47,7 +47,7 @@ func (m *Machine) overStates(t *exprs.Tree, e scene) api.Value {
 
 // enabled says whether an action has a successor of the first state; it may not have too many, as in action.EnabledIn.
 func (m *Machine) enabled(t *exprs.Tree, e scene) bool {
-	l := m.after(t, e, m.states[0], nil)
+	l := m.after(t, e, m.states[0], &gathering{most: maxTold})
 	if len(l) > api.MaxSuccessors {
 		fail(t, e, api.ErrLarge)
 	}
@@ -86,16 +86,20 @@ func (m *Machine) within(first, second []*api.Value, run func()) {
 	m.states, m.mode, m.primed = states, mode, primed
 }
 
-// after is the successors of a state by an action, ascending, each once.
-func (m *Machine) after(t *exprs.Tree, e scene, first []*api.Value, wanted assignment) []api.State {
+// inOrder gathers successors of which use is made one after the other.
+func inOrder(wanted assignment) *gathering {
+	return &gathering{most: maxLists, least: true, wanted: wanted}
+}
+
+// after is the successors of a state by an action, ascending, each once, as far as they are gathered.
+func (m *Machine) after(t *exprs.Tree, e scene, first []*api.Value, g *gathering) []api.State {
 	var out []api.State
-	m.within(first, pointers(nil, len(first)), func() { out = m.gathered(t, e, wanted) })
+	m.within(first, pointers(nil, len(first)), func() { out = m.gathered(t, e, g) })
 	return out
 }
 
 // gathered goes through a node, and gathers the states that are assigned; all of it has been gone through before it is asked whether all variables are assigned.
-func (m *Machine) gathered(t *exprs.Tree, e scene, wanted assignment) []api.State {
-	g := &gathering{wanted: wanted}
+func (m *Machine) gathered(t *exprs.Tree, e scene, g *gathering) []api.State {
 	m.through(t, e, g)
 	if g.open {
 		fail(t, e, api.ErrUnassigned)
@@ -103,14 +107,14 @@ func (m *Machine) gathered(t *exprs.Tree, e scene, wanted assignment) []api.Stat
 	return g.states()
 }
 
-// After is the successors of the first state by an action.
+// After is the successors of the first state by an action; of too many some.
 func (m *Machine) After(e api.Expr) []api.State {
-	return m.after(exprs.Grow(e), scene{place: api.None}, m.states[0], nil)
+	return m.after(exprs.Grow(e), scene{place: api.None}, m.states[0], &gathering{most: maxTold})
 }
 
-// Begin is the states that Init assigns.
+// Begin is the states that Init assigns; of too many some.
 func (m *Machine) Begin(e api.Expr) []api.State {
-	return m.gathered(exprs.Grow(e), scene{place: api.None}, nil)
+	return m.gathered(exprs.Grow(e), scene{place: api.None}, &gathering{most: maxTold})
 }
 
 // target is what is assigned: the first state, or the second one.
@@ -136,26 +140,27 @@ func (m *Machine) assigns(t *exprs.Tree, e scene) int {
 	return x
 }
 
-// give gives what is assigned now, as a list of its own.
-func (m *Machine) give(t *exprs.Tree, e scene, out *gathering) {
+// give gives what is assigned now, as a list of its own; false if no list that comes behind it can be of use.
+func (m *Machine) give(t *exprs.Tree, e scene, out *gathering) bool {
 	m.lists++
 	if m.lists > maxGiven && m.Steps > api.MaxActionSteps {
 		fail(t, e, api.ErrFuel)
 	}
-	out.add(m.target())
+	return out.add(m.target())
 }
 
-// assigned gives a list with a variable assigned.
-func (m *Machine) assigned(variable int, v api.Value, t *exprs.Tree, e scene, out *gathering) {
+// assigned gives a list with a variable assigned, as give does.
+func (m *Machine) assigned(x int, v api.Value, t *exprs.Tree, e scene, out *gathering) bool {
 	target := m.target()
-	target[variable] = &v
-	m.give(t, e, out)
-	target[variable] = nil
+	target[x] = &v
+	more := m.give(t, e, out)
+	target[x] = nil
+	return more
 }
 
 // behind goes through one node, and when it has given its lists through another one for each of them.
 func (m *Machine) behind(first func(out *gathering), then func()) {
-	g := &gathering{}
+	g := &gathering{most: maxLists}
 	first(g)
 	target := m.target()
 	before := slices.Clone(target)
@@ -237,13 +242,15 @@ func (m *Machine) throughApplied(t *exprs.Tree, e scene, out *gathering) bool {
 	return true
 }
 
-// throughMembers assigns each member of a set. Of more than there are steps no use is made, but of one that is wanted: behind them something would be evaluated, or they are too many.
+// throughMembers assigns each member of a set. Those behind as many as there may be steps are left out, but for one that is wanted; and when very many lists were given, those of which no use is made.
 func (m *Machine) throughMembers(x int, t *exprs.Tree, e scene, out *gathering) {
 	l, n := m.counted(t, e)
 	for at := range min(n, maxLists) {
 		v, err := lazy.MemberAt(l, at)
 		check(t, e, err)
-		m.assigned(x, v, t, e, out)
+		if more := m.assigned(x, v, t, e, out); !more && m.lists > maxLists {
+			break
+		}
 	}
 	if n <= maxLists || out.wanted == nil || out.wanted[x] == nil {
 		return
@@ -304,8 +311,8 @@ func (m *Machine) throughBoth(t *exprs.Tree, e scene, out *gathering) {
 	target := m.target()
 	before := slices.Clone(target)
 	wanted := before.or(out.wanted)
-	for _, between := range m.after(t.Kids[0], e, m.states[0], nil) {
-		for _, x := range m.after(t.Kids[1], e, pointers(between, len(between)), wanted) {
+	for _, between := range m.after(t.Kids[0], e, m.states[0], inOrder(nil)) {
+		for _, x := range m.after(t.Kids[1], e, pointers(between, len(between)), inOrder(wanted)) {
 			copy(target, pointers(x, len(x)))
 			m.give(t, e, out)
 			copy(target, before)
