@@ -89,7 +89,10 @@ func TestErrors(t *testing.T) {
 		at     int
 		err    api.Errno
 	}{
-		{func(g *api.StateGraph, l []api.LogRecord) []api.LogRecord { return l }, 0, api.OK}, {func(g *api.StateGraph, l []api.LogRecord) []api.LogRecord { g.Values = nil; return l }, 0, api.ErrShape}, {func(g *api.StateGraph, l []api.LogRecord) []api.LogRecord { g.Values[0] = g.Values[1]; return l }, 0, api.ErrDouble}, {func(g *api.StateGraph, l []api.LogRecord) []api.LogRecord { return make([]api.LogRecord, 31) }, 0, api.ErrLarge},
+		{func(g *api.StateGraph, l []api.LogRecord) []api.LogRecord { return l }, 0, api.OK}, {func(g *api.StateGraph, l []api.LogRecord) []api.LogRecord { g.Values = nil; return l }, 0, api.ErrShape}, {func(g *api.StateGraph, l []api.LogRecord) []api.LogRecord { g.Values[0] = g.Values[1]; return l }, 0, api.ErrDouble}, {func(g *api.StateGraph, l []api.LogRecord) []api.LogRecord {
+			g.Values[0], g.Values[2] = g.Values[1], api.State{{Kind: 9}}
+			return l
+		}, 0, api.ErrForm}, {func(g *api.StateGraph, l []api.LogRecord) []api.LogRecord { return make([]api.LogRecord, 31) }, 0, api.ErrLarge},
 		{func(g *api.StateGraph, l []api.LogRecord) []api.LogRecord { l[1].Gap = 6; return l }, 1, api.ErrRange}, {func(g *api.StateGraph, l []api.LogRecord) []api.LogRecord { l[1].Gap = -1; return l }, 1, api.ErrRange}, {func(g *api.StateGraph, l []api.LogRecord) []api.LogRecord { l[1].Action = 12; return l }, 1, api.ErrRange}, {func(g *api.StateGraph, l []api.LogRecord) []api.LogRecord { l[1].Action, l[1].Stay = 1, true; return l }, 1, api.ErrClash}, {func(g *api.StateGraph, l []api.LogRecord) []api.LogRecord { l[0].Stay = true; return l }, 0, api.ErrClash},
 		{func(g *api.StateGraph, l []api.LogRecord) []api.LogRecord { l[1].Shown[0].Var = 1; return l }, 1, api.ErrRange}, {func(g *api.StateGraph, l []api.LogRecord) []api.LogRecord {
 			l[1].Shown = append(l[1].Shown, l[1].Shown[0])

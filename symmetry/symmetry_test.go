@@ -196,6 +196,23 @@ func TestGraphs(t *testing.T) {
 	}
 }
 
+// TestEachState has a wrong state behind two that are the same: the error of each state is listed before ErrDouble.
+func TestEachState(t *testing.T) {
+	large := make(api.State, 9)
+	for i, c := range []struct {
+		l   []api.State
+		err api.Errno
+	}{{[]api.State{{values.Int(1)}, {values.Int(1)}, {values.Int(10001)}}, api.ErrForm}, {[]api.State{large, large, large}, api.ErrLarge}, {[]api.State{{values.Int(1)}, {values.Int(1)}, {{Kind: 9}}}, api.ErrForm}, {[]api.State{{values.Int(1)}, {values.Int(2)}, {values.Int(1)}}, api.ErrDouble}, {[]api.State{{}, {}}, api.ErrDouble}, {[]api.State{{values.Int(1)}, {values.Int(1)}, {}}, api.ErrShape}} {
+		g := api.StateGraph{Graph: api.Graph{States: len(c.l)}, Values: c.l}
+		at, e1 := CheckSymmetric(g, perms("11"))
+		_, _, e2 := QuotientOf(g, perms("11"))
+		_, e3 := Lifted(g, perms("11"), nil)
+		if at != 0 || e1 != c.err || e2 != c.err || e3 != c.err {
+			t.Errorf("%d: %d %d %d %d", i, at, e1, e2, e3)
+		}
+	}
+}
+
 func TestByChance(t *testing.T) {
 	r := rand.New(rand.NewSource(8))
 	l := perms("ab ba", "ab bc ca")
