@@ -13,11 +13,12 @@ func CheckScope(s api.LevelScope) (int, api.Errno) {
 	if len(s.Constants) > api.MaxConstants || len(s.Vars) > api.MaxVars || len(s.Defs) > api.MaxDefs {
 		return 0, api.ErrLarge
 	}
+	given := slices.Concat(s.Constants, s.Vars)
+	if slices.ContainsFunc(given, func(name string) bool { return !words.IsName(name) }) {
+		return 0, api.ErrName
+	}
 	known := map[string]usage.Takes{}
-	for i, name := range slices.Concat(s.Constants, s.Vars) {
-		if !words.IsName(name) {
-			return 0, api.ErrName
-		}
+	for i, name := range given {
 		if _, is := known[name]; is {
 			return 0, api.ErrExists
 		}

@@ -226,6 +226,7 @@ func TestErrors(t *testing.T) {
 		err api.Errno
 	}{
 		{api.LevelScope{}, 0, api.OK}, {api.LevelScope{Constants: names(9)}, 0, api.ErrLarge}, {api.LevelScope{Vars: names(9)}, 0, api.ErrLarge}, {api.LevelScope{Vars: names(8), Constants: []string{"TRUE"}}, 0, api.ErrName}, {api.LevelScope{Vars: names(8), Constants: []string{"n7"}}, 0, api.ErrExists},
+		{api.LevelScope{Constants: []string{"x"}, Vars: []string{"x", ""}}, 0, api.ErrName}, {api.LevelScope{Constants: []string{"x", "x", "1"}}, 0, api.ErrName}, {api.LevelScope{Vars: []string{"x", "x", "IF"}}, 0, api.ErrName}, {api.LevelScope{Constants: []string{"x", "x"}, Defs: make([]api.Def, 1)}, 0, api.ErrExists}, {api.LevelScope{Vars: []string{"x", "x"}}, 0, api.ErrExists},
 		{api.LevelScope{Defs: make([]api.Def, 41)}, 0, api.ErrLarge}, {d(func(d *api.Def) { d.Name = "1" }), 1, api.ErrName}, {d(func(d *api.Def) { d.Params = []string{"IF"} }), 1, api.ErrName}, {d(func(d *api.Def) { d.Name = "A" }), 1, api.ErrExists}, {d(func(d *api.Def) { d.Name = "x" }), 1, api.ErrExists},
 		{d(func(d *api.Def) { d.Params = names(5) }), 1, api.ErrLarge}, {d(func(d *api.Def) { d.Params = names(4) }), 1, api.ErrShape}, {d(func(d *api.Def) { d.Params, d.Arities = names(1), []int{5} }), 1, api.ErrRange}, {d(func(d *api.Def) { d.Params, d.Arities = []string{"u", "u"}, []int{0, 0} }), 1, api.ErrDouble},
 		{d(func(d *api.Def) { d.Params, d.Arities = []string{"x"}, []int{0} }), 1, api.ErrClash}, {d(func(d *api.Def) { d.Params, d.Arities = []string{"B"}, []int{0} }), 1, api.ErrClash}, {d(func(d *api.Def) { d.Body = nil }), 1, api.ErrEmpty}, {d(func(d *api.Def) { d.Body = exprs.Name("zz") }), 1, api.ErrMissing}, {d(func(d *api.Def) { d.Body = exprs.Name("B") }), 1, api.ErrMissing},
@@ -240,6 +241,12 @@ func TestErrors(t *testing.T) {
 		}
 		if _, err := DefLevels(c.s); err != c.err {
 			t.Errorf("%d: levels %d", i, err)
+		}
+		_, e1 := SourcesOf(c.s, exprs.Name("TRUE"))
+		_, e2 := VarsOf(c.s, exprs.Name("TRUE"))
+		_, e3 := PrimedIn(c.s, exprs.Name("TRUE"))
+		if e1 != c.err || e2 != c.err || e3 != c.err {
+			t.Errorf("%d: %d %d %d", i, e1, e2, e3)
 		}
 	}
 }
