@@ -8,28 +8,39 @@ import (
 	"stutter/api"
 )
 
-// The disk is a log: the block with a number has the record with this number, which is an entry or a take. A record names the life that wrote it, and the hash of the record before it, so that records that an earlier life left behind a lost one do not follow those that are written later. Its own hash, at its end, tells whether it was written whole.
+// The disk is a log: the block with a number has the record with this number, which is an entry or a take.
+//
+// A power failure may leave the first bytes of a record before the last ones of an older content of its block. Whatever a hash says of such bytes, there are texts for which it says that they are one record. So a record begins and ends with the same mark, and is written with another one than the character with which its block ends: a block that was written in part begins with the new mark and does not end with it, or is shorter than it says. A life writes a block at most once, so that it knows how its block ends.
+//
+// A record names the life that wrote it, which is greater than all that can be seen on the disk, so that records that an earlier life left behind a lost one do not follow those that are written later.
 
-// The lengths of the parts of a record, in their order; the payload stands before the hash.
+// The lengths of the parts of a record, in their order; behind the payload stand a hash, by which other changes of a block are noticed, and the mark again.
 const (
-	signLength  = 1
+	markLength  = 1
 	indexLength = 3
-	lifeLength  = 2
+	lifeLength  = 1 // one character, which cannot be written in part
 	sizeLength  = 3
+	headLength  = markLength + indexLength + lifeLength + sizeLength
 	hashLength  = 16
-	headLength  = signLength + indexLength + lifeLength + sizeLength + hashLength
 	fromLength  = 3
 	actLength   = 2
-	maxLife     = 99
+	putLength   = 1 + fromLength + actLength
+	maxLength   = headLength + putLength + api.MaxPacked + hashLength + markLength
+	maxRecords  = 2 * api.MaxStoreOps // each entry is put and taken
+)
+
+// The marks, the greatest life, whose character is the last one that is printed, and what stands for no entry.
+const (
+	marks   = "AB"
+	noEntry = "---"
+	maxLife = '~' - '!' + 1
 )
 
 // record is what a block says.
 type record struct {
-	life         int
-	before, hash string
-	payload      string
-	whole, torn  bool // torn: not whole, but it may be the beginning of a record
-	mixed        bool // torn: as long as it should be, so that an older record must have been there
+	life    int // 0: it cannot be seen
+	payload string
+	whole   bool // written by one write, and nothing of it is lost
 }
 
 // padded is a number with so many digits.
@@ -49,9 +60,17 @@ func hashOf(s string) string {
 }
 
 // blockOf is the block of a record.
-func blockOf(index, life int, before, payload string) string {
-	s := "S" + padded(index, indexLength) + padded(life, lifeLength) + padded(len(payload), sizeLength) + before + payload
-	return s + hashOf(s)
+func blockOf(mark string, index, life int, payload string) string {
+	s := mark + padded(index, indexLength) + string(rune('!'+life-1)) + padded(len(payload), sizeLength) + payload
+	return s + hashOf(s) + mark
+}
+
+// markFor is the mark with which a record is written over the content of a block.
+func markFor(old string) string {
+	if strings.HasSuffix(old, marks[:markLength]) {
+		return marks[markLength:]
+	}
+	return marks[:markLength]
 }
 
 // payloadOf is what a record of an operation says.
@@ -59,11 +78,30 @@ func payloadOf(op api.StoreOp, packed string) string {
 	if op.Kind == api.StoreTake {
 		return "T"
 	}
-	from := strings.Repeat("-", fromLength)
+	from := noEntry
 	if op.From != api.None {
 		from = padded(op.From, fromLength)
 	}
 	return "P" + from + padded(op.Action, actLength) + packed
+}
+
+// operationOf is the operation whose record says something; false if there is none.
+func operationOf(payload string) (api.StoreOp, bool) {
+	if payload == "T" {
+		return api.StoreOp{Kind: api.StoreTake}, true
+	}
+	if len(payload) < putLength || payload[0] != 'P' {
+		return api.StoreOp{}, false
+	}
+	op := api.StoreOp{From: api.None}
+	isFrom := true
+	if payload[1:1+fromLength] != noEntry {
+		op.From, isFrom = digits(payload, 1, fromLength)
+	}
+	action, isAction := digits(payload, 1+fromLength, actLength)
+	state, err := Unpack(payload[putLength:])
+	op.Action, op.State = action, state
+	return op, isFrom && isAction && action < api.MaxActions && err == api.OK
 }
 
 // digits reads a number of so many digits, of which the text may have fewer; false if something else stands there.
@@ -82,79 +120,123 @@ func digits(s string, from, length int) (int, bool) {
 	return n, true
 }
 
-// read reads the block with a number; false if it can be no part of a record.
+// lifeIn is the life that a block names, 0 if it is too short.
+func lifeIn(block string) int {
+	if at := markLength + indexLength; at < len(block) {
+		return int(block[at]) - '!' + 1
+	}
+	return 0
+}
+
+// read reads the block with a number; false if no writes can have left it.
 func read(block string, index int) (record, bool) {
 	if block == "" {
-		return record{torn: true}, true
+		return record{}, true
 	}
-	at, okIndex := digits(block, signLength, indexLength)
-	life, okLife := digits(block, signLength+indexLength, lifeLength)
-	size, okSize := digits(block, signLength+indexLength+lifeLength, sizeLength)
-	expected := padded(index, indexLength)
-	have := block[signLength:min(len(block), signLength+indexLength)]
-	if block[0] != 'S' || !okIndex || !okLife || !okSize || !strings.HasPrefix(expected, have) || len(have) == indexLength && at != index {
+	if index >= maxRecords || !hasHead(block, index) {
 		return record{}, false
 	}
-	length := headLength + size + hashLength
-	if len(block) < headLength || len(block) < length {
-		return record{torn: true, life: life}, life > 1 || isBeginning(block, size)
+	r := record{life: lifeIn(block)}
+	if isBeginning(block, index) {
+		size, _ := digits(block, markLength+indexLength+lifeLength, sizeLength)
+		if r.whole = len(block) == headLength+size+hashLength+markLength; r.whole {
+			r.payload = block[headLength : headLength+size]
+		}
+		return r, true
 	}
-	r := record{life: life, before: block[headLength-hashLength : headLength], payload: block[headLength : headLength+size]}
-	r.hash = block[headLength+size : length]
-	r.whole = len(block) == length && hashOf(block[:headLength+size]) == r.hash
-	r.torn, r.mixed = !r.whole, !r.whole
-	return r, true
+	return r, isMixed(block, index)
 }
 
-// isBeginning says whether a block that is too short may be the beginning of a record with a payload of some size.
-func isBeginning(block string, size int) bool {
-	if len(block) <= headLength {
+// hasHead says whether a block begins like a record with a number, and has only the characters of records.
+func hasHead(block string, index int) bool {
+	number := block[markLength:min(len(block), markLength+indexLength)]
+	_, isSize := digits(block, markLength+indexLength+lifeLength, sizeLength)
+	strange := slices.ContainsFunc([]byte(block), func(c byte) bool { return c < ' ' || c > '~' })
+	return strings.Contains(marks, block[:markLength]) && strings.HasPrefix(padded(index, indexLength), number) && isSize &&
+		!strange && (len(block) <= markLength+indexLength || lifeIn(block) > 0)
+}
+
+// isBeginning says whether a block with a head is a record with some number, or a beginning of one.
+func isBeginning(block string, index int) bool {
+	if len(block) < headLength {
 		return true
 	}
+	size, _ := digits(block, markLength+indexLength+lifeLength, sizeLength)
 	payload := block[headLength:min(len(block), headLength+size)]
-	switch payload[0] {
-	case 'T':
-		return size == 1
-	case 'P':
-		head := 1 + fromLength + actLength
-		if len(payload) <= head {
-			return true
-		}
-		_, length, complete := unpackFirst(payload[head:])
-		return !complete || head+length == size
+	if len(payload) < size {
+		return beginsPayload(payload, size, index)
 	}
-	return false
+	op, ok := operationOf(payload)
+	return ok && canBe(op, index) && strings.HasPrefix(blockOf(block[:markLength], index, lifeIn(block), payload), block)
 }
 
-// journal is a log that was read: the store, how many records it has, the hash of the last one, and the greatest life on the disk.
+// canBe says whether an operation can be the record with a number.
+func canBe(op api.StoreOp, index int) bool {
+	if op.Kind == api.StoreTake {
+		return index > 0
+	}
+	return op.From < index
+}
+
+// beginsPayload says whether what stands in a record may be the beginning of a payload of some size, which is longer.
+func beginsPayload(payload string, size, index int) bool {
+	if size == 1 {
+		return canBe(api.StoreOp{Kind: api.StoreTake}, index)
+	}
+	if size <= putLength || size > putLength+api.MaxPacked {
+		return false
+	}
+	return payload == "" || beginsPut(payload, index)
+}
+
+// beginsPut says whether a text may be the beginning of what the record of an entry says.
+func beginsPut(payload string, index int) bool {
+	from := payload[1:min(len(payload), 1+fromLength)]
+	n, isFrom := digits(from, 0, fromLength)
+	if isFrom && len(from) == fromLength && n >= index || !isFrom && !strings.HasPrefix(noEntry, from) {
+		return false
+	}
+	action, isAction := digits(payload, 1+fromLength, actLength)
+	if payload[0] != 'P' || !isAction || action >= api.MaxActions {
+		return false
+	}
+	if len(payload) <= putLength {
+		return true
+	}
+	_, _, complete := unpackFirst(payload[putLength:])
+	return !complete
+}
+
+// isMixed says whether a block with a head may have parts of a record and of an older one that its block had before.
+func isMixed(block string, index int) bool {
+	if len(block) > maxLength || block[len(block)-1] == block[0] {
+		return false
+	}
+	if lifeIn(block) != 1 {
+		return true
+	}
+	// A record of the first life stands over no other one; so it is the older one, and nothing but a mark was written.
+	other := strings.Trim(marks, block[:markLength])
+	return isBeginning(other+block[markLength:], index)
+}
+
+// journal is a log that was read: the store, how many records it has, and the greatest life on the disk.
 type journal struct {
 	*memory
 	records, life int
-	last          string
 }
 
 // apply does what a payload says; false if it can say nothing like this.
 func (j *journal) apply(payload string) bool {
-	if payload == "T" {
-		return j.do(api.StoreOp{Kind: api.StoreTake}).Entry != api.None
-	}
-	head := 1 + fromLength + actLength
-	if len(payload) < head || payload[0] != 'P' {
+	op, ok := operationOf(payload)
+	if !ok || j.check(op) != api.OK {
 		return false
 	}
-	state, err := Unpack(payload[head:])
-	op := api.StoreOp{State: state, From: api.None}
-	from := payload[1 : 1+fromLength]
-	ok := true
-	if from != strings.Repeat("-", fromLength) {
-		op.From, ok = digits(payload, 1, fromLength)
+	r := j.do(op)
+	if op.Kind == api.StoreTake {
+		return r.Entry != api.None
 	}
-	action, ok2 := digits(payload, 1+fromLength, actLength)
-	op.Action = action
-	if err != api.OK || !ok || !ok2 || j.check(op) != api.OK {
-		return false
-	}
-	return j.do(op).New
+	return r.New && len(j.Entries) <= api.MaxStoreOps
 }
 
 // recovered reads the log on a disk.
@@ -162,34 +244,25 @@ func recovered(content []string) (*journal, api.Errno) {
 	if err := checkContent(content); err != api.OK {
 		return nil, err
 	}
-	j := &journal{memory: memoryOf(api.StoreState{}), last: hashOf("")}
+	j := &journal{memory: memoryOf(api.StoreState{})}
 	var records []record
-	whole := api.MaxStoreLives // records of so many lives may have been lost
 	for i, block := range content {
 		r, ok := read(block, i)
-		if !ok || len(block) >= signLength+indexLength+lifeLength && r.life < 1 {
+		if !ok {
 			return nil, api.ErrTorn
 		}
 		j.life = max(j.life, r.life)
-		if r.whole {
-			whole = max(whole, r.life)
-		}
 		records = append(records, r)
 	}
+	before := 0
 	for _, r := range records {
-		tooLate := r.torn && r.life > whole+1
-		if tooLate || r.mixed && r.life < 2 {
-			return nil, api.ErrTorn
-		}
-	}
-	for _, r := range records {
-		if !r.whole || r.before != j.last {
+		if !r.whole || r.life < before {
 			break
 		}
 		if !j.apply(r.payload) {
 			return nil, api.ErrTorn
 		}
-		j.last = r.hash
+		before = r.life
 		j.records++
 	}
 	return j, api.OK
@@ -210,27 +283,32 @@ func WritesOf(content []string, l []api.StoreOp) ([]api.DiskWrite, api.Errno) {
 	if err != api.OK {
 		return nil, err
 	}
+	old := make([]string, api.MaxDiskBlocks)
+	copy(old, content)
 	life := j.life + 1
+	full := false
 	var out []api.DiskWrite
 	err = j.doAll(l, func(op api.StoreOp, r api.StoreResult) {
 		switch {
 		case op.Kind == api.StoreSync:
 			out = append(out, api.DiskWrite{Kind: api.DiskSync})
 		case r.New || op.Kind == api.StoreTake && r.Entry != api.None:
+			if full = full || life > maxLife || len(j.Entries) > api.MaxStoreOps; full {
+				return
+			}
 			packed := ""
 			if r.New {
 				packed = j.Entries[r.Entry].Packed
 			}
-			block := blockOf(j.records, life, j.last, payloadOf(op, packed))
+			block := blockOf(markFor(old[j.records]), j.records, life, payloadOf(op, packed))
 			out = append(out, api.DiskWrite{Kind: api.DiskPut, Block: j.records, Bytes: block})
-			j.last = block[len(block)-hashLength:]
 			j.records++
 		}
 	})
 	if err != api.OK {
 		return nil, err
 	}
-	if len(j.Entries) > api.MaxStoreOps || life > maxLife {
+	if full {
 		return nil, api.ErrFull
 	}
 	return slices.Clip(out), api.OK

@@ -180,7 +180,7 @@ func TestRecover(t *testing.T) {
 	if !reflect.DeepEqual(s, r.State) || err != api.OK || err2 != api.OK {
 		t.Error(s, r.State, err, err2)
 	}
-	for i, c := range [][]string{{"x"}, {"zzzzzzzzzzzzzzzzzzzz"}, {"", "S000"}, {"S0000"}, append([]string{"T"}, content[1:]...), append(slices.Clone(content), "garbage")} {
+	for i, c := range [][]string{{"x"}, {"zzzzzzzzzzzzzzzzzzzz"}, {"", "A000"}, {"A000$"}, append([]string{"T"}, content[1:]...), append(slices.Clone(content), "garbage")} {
 		want := api.ErrTorn
 		if i == 3 {
 			want = api.OK // the beginning of a record
@@ -233,7 +233,7 @@ func some(r *rand.Rand, entries int) []api.StoreOp {
 		default:
 			op := put(r.Intn(12), r.Intn(entries+1)-1, r.Intn(12))
 			if r.Intn(4) == 0 {
-				op.State = append(op.State, values.String(strings.Repeat("s", r.Intn(30))))
+				op.State = append(op.State, values.String(strings.Repeat(string("sAB"[r.Intn(3)]), r.Intn(30))))
 			}
 			out = append(out, op)
 		}
@@ -253,37 +253,175 @@ func begun(before api.StoreState, ops []api.StoreOp, least, most int, s api.Stor
 	return false
 }
 
+// live is a life on a disk that ends with a power failure; it returns what is there then.
+func live(t *testing.T, content []string, ops []api.StoreOp, fates func(writes []api.DiskWrite) api.DiskCrash) ([]string, bool) {
+	t.Helper()
+	before, err := RecoverFrom(content)
+	if err != api.OK {
+		t.Fatalf("%q: %d", content, err)
+	}
+	l, err := WritesOf(content, ops)
+	if err == api.ErrFull {
+		return nil, false
+	}
+	if err != api.OK {
+		t.Fatalf("%q: %v: %d", content, ops, err)
+	}
+	c := fates(l)
+	least, most := 0, 0
+	for n := range len(ops) + 1 {
+		part, _ := WritesOf(content, ops[:n])
+		if len(part) <= c.Writes {
+			most = n
+			if n > 0 && ops[n-1].Kind == api.StoreSync {
+				least = n
+			}
+		}
+	}
+	after, err := ContentAfter(content, l, c)
+	s, err2 := RecoverFrom(after)
+	if err != api.OK || err2 != api.OK || !begun(before, ops, least, most, s) {
+		t.Fatalf("%v %v from %v: %v %d %d\n%q\n%q", ops, c, before, s, err, err2, content, after)
+	}
+	return after, true
+}
+
 func TestCrashes(t *testing.T) {
 	r := rand.New(rand.NewSource(6))
-	for range 3000 {
+	for range 2000 {
 		var content []string
-		before := api.StoreState{}
-		for range 3 {
-			ops := some(r, len(before.Entries))
-			l, err := WritesOf(content, ops)
-			if err != api.OK {
-				t.Fatal(err)
+		for range 1 + r.Intn(9) {
+			s, _ := RecoverFrom(content)
+			ops := some(r, len(s.Entries))
+			var ok bool
+			content, ok = live(t, content, ops, func(l []api.DiskWrite) api.DiskCrash {
+				c := api.DiskCrash{Writes: r.Intn(len(l) + 1)}
+				for range c.Writes {
+					c.Fates = append(c.Fates, []int{-1, 0, 1000, r.Intn(70), r.Intn(12)}[r.Intn(5)])
+				}
+				return c
+			})
+			if !ok {
+				t.Fatal("full")
 			}
-			c := api.DiskCrash{Writes: r.Intn(len(l) + 1)}
-			for range c.Writes {
-				c.Fates = append(c.Fates, []int{-1, 0, 1000, r.Intn(70), r.Intn(12)}[r.Intn(5)])
+		}
+	}
+}
+
+// TestAllFates ends three lives of a put each with all fates, of records of several lengths, with marks in their texts.
+func TestAllFates(t *testing.T) {
+	var ops [][]api.StoreOp
+	for _, s := range []string{"", "A", "BBBBBBBB"} {
+		ops = append(ops, []api.StoreOp{{From: -1, State: api.State{values.String(s)}}})
+	}
+	type disk struct {
+		content string
+		lives   int
+	}
+	seen := map[disk]bool{}
+	var further func(content []string, lives int)
+	further = func(content []string, lives int) {
+		at := disk{strings.Join(content, "\n"), lives}
+		if lives == 3 || seen[at] {
+			return
+		}
+		seen[at] = true
+		for _, op := range ops[lives/2:] {
+			for n := 0; n <= 50; n++ {
+				after, _ := live(t, content, op, func(l []api.DiskWrite) api.DiskCrash {
+					return api.DiskCrash{Writes: len(l), Fates: []int{n}}
+				})
+				further(after, lives+1)
 			}
-			least, most := 0, 0
-			for n := range len(ops) + 1 {
-				part, _ := WritesOf(content, ops[:n])
-				if len(part) <= c.Writes {
-					most = n
-					if n > 0 && ops[n-1].Kind == api.StoreSync {
-						least = n
-					}
+		}
+	}
+	further(nil, 0)
+}
+
+// TestManyLives has lives that are torn again and again, until there are too many; three lives are never too many.
+func TestManyLives(t *testing.T) {
+	for done := range 60 {
+		var content []string
+		for i := range 300 {
+			ops := []api.StoreOp{put(7, -1, 0), put(i%8, -1, 0)}
+			after, ok := live(t, content, ops, func(l []api.DiskWrite) api.DiskCrash {
+				return api.DiskCrash{Writes: len(l), Fates: []int{0, done, done}[i%2:]}
+			})
+			if !ok && i < api.MaxStoreLives {
+				t.Fatal("full", done, i)
+			}
+			if !ok {
+				break
+			}
+			content = after
+		}
+	}
+}
+
+// TestMixtures has blocks with the first bytes of a record and the last ones of an older content: none of them is a whole record, whatever its hash says.
+func TestMixtures(t *testing.T) {
+	var payloads []string
+	for _, s := range []string{"", "a", "b", "A", "B", "AAAAAAAAAAAA", "bbbbbbbbbbbb"} {
+		packed, _ := Pack(api.State{values.String(s)})
+		payloads = append(payloads, payloadOf(api.StoreOp{From: api.None}, packed), payloadOf(api.StoreOp{From: 2, Action: 11}, packed))
+	}
+	payloads = append(payloads, "T")
+	olds := []string{""}
+	for _, p := range payloads {
+		block := blockOf(markFor(""), 5, 1, p)
+		olds = append(olds, block, block[:len(block)-1], block[:9], block[:3], "B"+block[1:], "B"+block[1:len(block)-1])
+	}
+	for _, old := range olds {
+		if _, ok := read(old, 5); !ok {
+			t.Fatalf("%q", old)
+		}
+		for _, p := range payloads {
+			block := blockOf(markFor(old), 5, 2, p)
+			for n := range block {
+				mixed := written(old, block, n)
+				r, ok := read(mixed, 5)
+				if !ok || r.whole && mixed != old {
+					t.Fatalf("%q over %q, %d: %v %v", block, old, n, r, ok)
+				}
+				end := len(mixed) > 0 && mixed[len(mixed)-1] == mixed[0]
+				if n > 0 && n < len(old) && end {
+					t.Fatalf("%q over %q, %d: it ends as it begins", block, old, n)
 				}
 			}
-			after, err := ContentAfter(content, l, c)
-			s, err2 := RecoverFrom(after)
-			if err != api.OK || err2 != api.OK || !begun(before, ops, least, most, s) {
-				t.Fatalf("%v %v from %v: %v %d %d\n%q\n%q", ops, c, before, s, err, err2, content, after)
+			if r, ok := read(block, 5); !r.whole || r.payload != p || r.life != 2 || !ok {
+				t.Fatalf("%q: %v %v", block, r, ok)
 			}
-			content, before = after, s
 		}
+	}
+}
+
+// TestTorn has blocks that no writes can have left.
+func TestTorn(t *testing.T) {
+	good := blockOf("A", 1, 1, "P---001:i1;")
+	for _, s := range []string{good + "A", good + "B", "B" + good, good[:8] + "9" + good[9:], "A001!011Q", "A001!011P--0", "A001!011P001", "A001!011P---12", "A001!012" + good[8:], "A002!", "A001 011", "A001!0x1", "A001!999P---001:", "A001\"011P\x7f", "C001", "A001!000", "B001!011P---001:i1;Q", blockOf("A", 1, 1, "P001001:i1;"), blockOf("A", 1, 1, "P---121:i1;"), blockOf("A", 1, 1, "P---001:i1"), blockOf("A", 1, 1, "TT")} {
+		if _, err := RecoverFrom([]string{"", s}); err != api.ErrTorn {
+			t.Errorf("%q: %d", s, err)
+		}
+	}
+	for i := range good {
+		for _, s := range []string{good[:i], "B" + good[1:i+1], "B001\"01" + good[7:]} {
+			if _, err := RecoverFrom([]string{"", s}); err != api.OK {
+				t.Errorf("%q: %d", s, err)
+			}
+		}
+	}
+	if _, err := RecoverFrom([]string{blockOf("A", 0, 1, "T")}); err != api.ErrTorn {
+		t.Error(err)
+	}
+	twice := []string{blockOf("A", 0, 1, "P---001:i1;"), blockOf("A", 1, 1, "P---001:i1;")}
+	if _, err := RecoverFrom(twice); err != api.ErrTorn {
+		t.Error(err)
+	}
+	var far []string
+	for range maxRecords {
+		far = append(far, "")
+	}
+	if _, err := RecoverFrom(append(far, "A120")); err != api.ErrTorn {
+		t.Error(err)
 	}
 }
