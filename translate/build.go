@@ -36,9 +36,6 @@ func joined(operator string, l ...api.Expr) api.Expr {
 // maxParts is how large an expression may become while it is made.
 const maxParts = 4 * api.MaxNodes
 
-// tooLarge says whether an expression is so large that it is not worth while to go on.
-func tooLarge(e api.Expr) bool { return len(e) > maxParts }
-
 // record is a record whose names are those of a node.
 func record(n api.Node, items []api.Expr) api.Expr { return exprs.Make(n, items...) }
 

@@ -40,12 +40,45 @@ func (s *system) block(p *part, n *statements.Node, block int) api.Expr {
 
 // step is the action of a statement, and of what comes behind it.
 func (s *system) step(p *part, n *statements.Node) api.Expr {
+	if e, is := s.made[n]; is {
+		return e
+	}
 	if s.large {
 		return name("FALSE")
 	}
 	e := s.statement(p, n)
-	s.large = s.large || tooLarge(e)
+	if n.Label == "" && len(e) > s.most {
+		e = s.defined(p, e)
+	}
+	s.large = s.large || len(e) > maxParts
+	s.made[n] = e
 	return e
+}
+
+// defined makes a definition of an action; what is bound around it are its parameters. If these are too many, it stays.
+func (s *system) defined(p *part, e api.Expr) api.Expr {
+	bound := []string{"self"}
+	eachStatement(p.Body, func(x api.PlusStmt) {
+		if x.Kind == api.PlusWith {
+			bound = append(bound, x.Name)
+		}
+	})
+	d := api.Def{Body: e}
+	var uses []api.Expr
+	for _, n := range freeIn(e) {
+		if slices.Contains(bound, n) {
+			d.Params, d.Arities, uses = append(d.Params, n), append(d.Arities, 0), append(uses, name(n))
+		}
+	}
+	if len(uses) > api.MaxParams {
+		return e
+	}
+	d.Name = s.fresh("Step")
+	s.more = append(s.more, d)
+	if len(uses) == 0 {
+		return name(d.Name)
+	}
+	return apply(d.Name, uses...)
 }
 
 func (s *system) statement(p *part, n *statements.Node) api.Expr {

@@ -31,7 +31,13 @@ type system struct {
 	vars       []string
 	parts      []*part // procedures, then processes, or the body
 	concurrent bool
-	large      bool
+
+	// What a specification is written with.
+	large bool
+	most  int                           // how many nodes what comes behind a statement may have, unless it is a definition of its own
+	made  map[*statements.Node]api.Expr // what comes from a statement on
+	more  []api.Def                     // further definitions
+	given map[string]bool               // names that mean something
 }
 
 // isShared says whether a variable is a function on identities, and known in a part by its value for one.
@@ -105,6 +111,30 @@ func eachStatement(l []api.PlusStmt, see func(x api.PlusStmt)) {
 	}
 }
 
+// expressions are all expressions of an algorithm.
+func (s *system) expressions() []api.Expr {
+	var out []api.Expr
+	for _, v := range s.Vars {
+		out = append(out, v.Value)
+	}
+	for _, d := range s.Defs {
+		out = append(out, d.Body)
+	}
+	for _, p := range s.parts {
+		out = append(out, p.Value)
+		for _, v := range p.Vars {
+			out = append(out, v.Value)
+		}
+		eachStatement(p.Body, func(x api.PlusStmt) {
+			for _, t := range x.Targets {
+				out = append(out, t.Index...)
+			}
+			out = append(out, x.Exprs...)
+		})
+	}
+	return out
+}
+
 // isRefused says whether a name stands in the way of those of the specification.
 func (s *system) isRefused() bool {
 	taken := slices.Clone(s.vars)
@@ -116,31 +146,16 @@ func (s *system) isRefused() bool {
 	}
 	standard := []string{"Nat", "Int", "Seq"}
 	refused := s.concurrent && slices.Contains(taken, "ProcSet") || slices.ContainsFunc(s.vars, func(v string) bool { return slices.Contains(standard, v) })
-	var all []api.Expr
-	for _, v := range s.Vars {
-		all = append(all, v.Value)
-	}
-	for _, d := range s.Defs {
-		all = append(all, d.Body)
-	}
 	for _, p := range s.parts {
 		for _, label := range p.labels {
 			refused = refused || slices.Contains(taken, label) || slices.Contains(append([]string{"ProcSet", "self", none}, standard...), label)
 		}
-		all = append(all, p.Value)
-		for _, v := range p.Vars {
-			all = append(all, v.Value)
-		}
 		eachStatement(p.Body, func(x api.PlusStmt) {
 			with := x.Kind == api.PlusWith
 			refused = refused || with && (slices.Contains(standard, x.Name) || x.Name == none || x.Name == "self")
-			for _, t := range x.Targets {
-				all = append(all, t.Index...)
-			}
-			all = append(all, x.Exprs...)
 		})
 	}
-	return refused || slices.ContainsFunc(all, bindsSelf)
+	return refused || slices.ContainsFunc(s.expressions(), bindsSelf)
 }
 
 // bindsSelf says whether a node of an expression binds the name self.

@@ -98,6 +98,56 @@ func checkLabels(t *testing.T, s string, spec api.Spec, actions []api.LabelActio
 	}
 }
 
+// deep is a set of a set .. of a value, so many times.
+func deep(v api.Value, times int) api.Value {
+	for range times {
+		v = values.Set(v)
+	}
+	return v
+}
+
+// TestManyBeginnings has processes whose variables begin in as many ways as are permitted, by sets that are those of the identity.
+func TestManyBeginnings(t *testing.T) {
+	for _, c := range []struct{ members, set string }{{"1 .. 6", "{<<self, 1>>, <<self, 2>>}"}, {"1 .. 4", "{<<self, 1>>, <<self, 2>>, self}"}, {"1 .. 2", "self .. self + 9"}, {"{\"a\"}", "{self} \\cup 1 .. 99"}, {"1 .. 6", "self .. 3"}, {"1 .. 5", "1 .. (self % 3) + 1"}} {
+		p := program(t, "algorithm C process P \\in "+c.members+" variables v \\in "+c.set+"; begin A: skip; end process;")
+		spec, err := SpecOf(p)
+		want, e := process.FirstStates(p)
+		got, at, e2 := action.FirstStates(spec)
+		if err != api.OK || e != api.OK || e2 != api.OK || !slices.EqualFunc(got, want, values.SameState) {
+			t.Errorf("%v: %d; %d and %d states, %d, %d at %d", c, err, len(want), len(got), e, e2, at)
+		}
+	}
+}
+
+// TestIdentities has identities of all kinds, small and great, whose variables begin with sets that are the same for all, or depend on the identity, on each other, and may be empty.
+func TestIdentities(t *testing.T) {
+	var numbers []api.Value
+	for n := range 60 {
+		numbers = append(numbers, values.Int(n))
+	}
+	m1, m2 := values.Model("m1"), values.Model("m2")
+	function, _ := values.Func([]api.Value{m1, values.Int(1), values.Set(numbers...)}, []api.Value{m1, m1, m1})
+	for i, members := range [][]api.Value{
+		{m1, m2}, {values.Set(), values.Set(m1)}, {values.Set(numbers...)}, {values.Set(numbers[:30]...), values.Set(numbers...)}, {values.Int(-3), values.String("a \\ \""), m1, values.Set(m2), values.Tuple(m1, m2)}, {deep(m1, 6), deep(values.Int(1), 6)}, {values.Bool(false), values.Tuple(values.Bool(false))}, numbers[:5], {values.Set(numbers[:45]...), values.Set(numbers[:46]...), values.Set(numbers[:47]...)}, {function}, {},
+	} {
+		for _, vars := range []string{"v \\in {1, 2}", "v \\in {FALSE, self = self}", "v \\in {1, IF self \\in {m} THEN 1 ELSE 2}", "v = 1, w \\in {v, IF self \\in {m} THEN 7 ELSE 8}", "v \\in {x \\in {1} : self \\in {m}}", "v \\in {0, IF self \\in D THEN 0 ELSE 1}, w \\in {v}", "v \\in {z \\in {1} : FALSE}, w \\in {1 \\div 0}", "v \\in {k}, w \\in 1 .. v"} {
+			p := program(t, "algorithm C variables k \\in {1, 2}; define D == {y \\in C : y # m} end define; process P \\in C variables "+vars+"; begin A: k := 1; end process; process q = 99 variables u \\in {3, 4}; begin B: skip; end process;")
+			p.Constants = []api.Binding{{Name: "C", Value: values.Set(members...)}, {Name: "m", Value: m1}}
+			spec, err := SpecOf(p)
+			want, e := process.FirstStates(p)
+			got, at, e2 := action.FirstStates(spec)
+			if err != api.OK || e == api.OK && (e2 != api.OK || !slices.EqualFunc(got, want, values.SameState)) {
+				t.Errorf("%d: %s: %d; %d and %d states, %d at %d, %d", i, vars, err, len(want), len(got), e2, at, e)
+			}
+			for _, x := range want {
+				if n, err := CheckStates(p, spec, []api.State{x}); n != 1 || err != api.OK {
+					t.Errorf("%d: %s: %v: %d", i, vars, x, err)
+				}
+			}
+		}
+	}
+}
+
 func TestErrors(t *testing.T) {
 	for s, want := range map[string]api.Errno{
 		"algorithm C variables x = 0; begin c: skip;": api.ErrRefused, "algorithm C variables x = 0; begin x: skip;": api.ErrRefused, "algorithm C variables x = 0; begin pc: skip;": api.ErrRefused, "algorithm C variables ProcSet = 0; begin A: skip;": api.OK, "algorithm C variables ProcSet = 0; process p = 1 begin A: skip; end process;": api.ErrRefused, "algorithm C begin self: skip;": api.ErrRefused, "algorithm C begin Nat: skip;": api.ErrRefused, "algorithm C begin ProcSet: skip;": api.ErrRefused, "algorithm C variables Int = 0; begin A: skip;": api.ErrRefused, "algorithm C begin A: with Seq = 0 do skip; end with;": api.ErrRefused, "algorithm C begin A: with defaultInitValue = 0 do skip; end with;": api.ErrRefused, "algorithm C define D == \\A self \\in {} : TRUE end define; begin A: skip;": api.ErrRefused, "algorithm C variables x = {self \\in {} : TRUE}; begin A: skip;": api.ErrRefused, "algorithm C define D == 1 end define; begin D: skip;": api.ErrRefused,
