@@ -1,7 +1,6 @@
 package prover
 
 import (
-	"slices"
 	"strconv"
 
 	"stutter/alike"
@@ -9,18 +8,19 @@ import (
 	"stutter/exprs"
 	"stutter/linear"
 	"stutter/tree"
-	"stutter/usage"
 )
 
-// bond is why two terms are equal: an equation (its number among the equations), or, with None, the equality of their operands.
-type bond struct{ a, b, equation int }
+// equation is two terms, and the line that says that they are equal.
+type equation struct {
+	left, right *term
+	at          int
+}
 
-// closure is terms, and bonds that make them equal; no bond is added between terms that are equal already, so that there is one way of bonds between two of them.
-type closure struct {
+// rewriter makes rules of equations: each of them makes a term a lesser one, and is such that no other one can be applied to it. By these rules equal terms become the same one.
+type rewriter struct {
 	*builder
-	class map[int]int
-	bonds []bond
-	fresh string
+	hole  *term // stands where a term is replaced
+	rules []equation
 }
 
 // checkEquations returns the error of equations, and of two terms.
@@ -54,8 +54,8 @@ func EqualBy(l []api.Expr, a, b api.Expr) (bool, api.Errno) {
 	if err := checkEquations(l, a, b); err != api.OK {
 		return false, err
 	}
-	c := closed(l, a, b)
-	return c.class[c.of(a)] == c.class[c.of(b)], api.OK
+	w := rewriterOf(l, a, b)
+	return w.least(a).right.key == w.least(b).right.key, api.OK
 }
 
 // ExplainedBy returns a derivation of an equation of two terms that are equal by equations.
@@ -63,33 +63,134 @@ func ExplainedBy(l []api.Expr, a, b api.Expr) ([]api.KernelStep, api.Errno) {
 	if err := checkEquations(l, a, b); err != api.OK {
 		return nil, err
 	}
-	c := closed(l, a, b)
-	if c.class[c.of(a)] != c.class[c.of(b)] {
+	w := rewriterOf(l, a, b)
+	first, second := w.least(a), w.least(b)
+	if first.right.key != second.right.key {
 		return nil, api.ErrNone
 	}
-	steps := c.emitted(c.equal(c.of(a), c.of(b)))
+	steps := w.emitted(w.joined(first, second))
 	if len(steps) == 0 {
 		return nil, api.ErrFuel
 	}
 	return steps, api.OK
 }
 
-// closed returns all terms with the bonds between them.
-func closed(l []api.Expr, a, b api.Expr) *closure {
-	c := &closure{builder: newBuilder(), class: map[int]int{}, fresh: freshIn(append([]api.Expr{a, b}, l...))}
-	c.note(a)
-	c.note(b)
+// rewriterOf makes the rules of equations.
+func rewriterOf(l []api.Expr, a, b api.Expr) *rewriter {
+	w := &rewriter{builder: newBuilder(), hole: termOf(exprs.Name(freshIn(append([]api.Expr{a, b}, l...))))}
+	var todo []equation
 	for _, e := range l {
 		sides, _ := alike.Parts(e, "=")
-		c.note(sides[0])
-		c.note(sides[1])
+		todo = append(todo, equation{termOf(sides[0]), termOf(sides[1]), w.hyp(w.of(e))})
 	}
-	for _, e := range l {
-		sides, _ := alike.Parts(e, "=")
-		c.join(bond{c.of(sides[0]), c.of(sides[1]), c.of(e)})
+	for len(todo) > 0 {
+		at := leastOf(todo)
+		e := todo[at]
+		todo = append(todo[:at:at], todo[at+1:]...)
+		todo = append(todo, w.take(e)...)
 	}
-	c.congruent()
-	return c
+	return w
+}
+
+// leastOf is the place of the equation with the fewest nodes.
+func leastOf(l []equation) int {
+	best := 0
+	for i, e := range l {
+		if e.left.size+e.right.size < l[best].left.size+l[best].right.size {
+			best = i
+		}
+	}
+	return best
+}
+
+// take makes a rule of an equation, and returns the rules to which it can be applied: they are rules no more.
+func (w *rewriter) take(e equation) []equation {
+	e = w.applied(e, true)
+	switch c := e.left.compare(e.right); {
+	case c == 0:
+		return nil
+	case c < 0:
+		e = w.turned(e)
+	}
+	var kept, again []equation
+	for _, r := range w.rules {
+		if r.left.has(e.left) || r.right.has(e.left) {
+			again = append(again, r)
+		} else {
+			kept = append(kept, r)
+		}
+	}
+	w.rules = append(kept, e)
+	return again
+}
+
+// applied applies rules to the right side of an equation, perhaps to the left one, too, as long as one can be applied: always the one that leaves out most.
+func (w *rewriter) applied(e equation, both bool) equation {
+	for {
+		best := api.None
+		for i, r := range w.rules {
+			if (e.right.has(r.left) || both && e.left.has(r.left)) && (best == api.None || r.saves() > w.rules[best].saves()) {
+				best = i
+			}
+		}
+		if best == api.None {
+			return e
+		}
+		e = w.replaced(w.rules[best], e, both)
+	}
+}
+
+// saves is how many nodes a rule leaves out.
+func (e equation) saves() int { return e.left.size - e.right.size }
+
+// least is a term and what it becomes by the rules.
+func (w *rewriter) least(e api.Expr) equation {
+	t := termOf(e)
+	return w.applied(equation{t, t, w.same(t)}, false)
+}
+
+func (w *rewriter) same(t *term) int {
+	return w.add(api.RuleSame, w.equal(t, t))
+}
+
+// equal is the expression that two terms are equal.
+func (w *rewriter) equal(a, b *term) int { return w.of(exprs.Apply("=", a.expr(), b.expr())) }
+
+// replaced puts the right side of an equation in the place of its left one, everywhere in another equation, or in its right side.
+func (w *rewriter) replaced(by, e equation, both bool) equation {
+	put := func(t *term) equation {
+		out := equation{e.left, e.right.with(by.left, t), 0}
+		if both {
+			out.left = e.left.with(by.left, t)
+		}
+		return out
+	}
+	out, open := put(by.right), put(w.hole)
+	return w.says(out.left, out.right, open, by.at, e.at)
+}
+
+// says returns the equation of two terms that follows by RuleReplace; open is where the hole is.
+func (w *rewriter) says(left, right *term, open equation, from ...int) equation {
+	term := exprs.Apply("=", open.left.expr(), open.right.expr())
+	at := w.put(line{rule: api.RuleReplace, goal: w.equal(left, right), from: from, name: w.hole.leaf[0].Text, term: term})
+	return equation{left, right, at}
+}
+
+// turned returns an equation with its sides exchanged.
+func (w *rewriter) turned(e equation) equation {
+	return w.says(e.right, e.left, equation{w.hole, e.left, 0}, e.at, w.same(e.left))
+}
+
+// joined returns the line that says that the left sides of two equations with the same right side are equal.
+func (w *rewriter) joined(a, b equation) int {
+	if b.left.key == b.right.key {
+		return a.at
+	}
+	back := w.turned(b)
+	if a.left.key == a.right.key {
+		return back.at
+	}
+	return w.says(a.left, b.left, equation{a.left, w.hole, 0}, back.at, a.at).at
 }
 
 // freshIn returns a name that stands nowhere.
@@ -108,162 +209,4 @@ func freshIn(l []api.Expr) string {
 			return name
 		}
 	}
-}
-
-// note takes a term, and those that count in it.
-func (c *closure) note(e api.Expr) {
-	id := c.of(e)
-	if _, is := c.class[id]; is {
-		return
-	}
-	c.class[id] = id
-	if usage.AppliesName(e[len(e)-1]) {
-		for _, o := range alike.Operands(e) {
-			c.note(o)
-		}
-	}
-}
-
-// join makes two terms equal that are not.
-func (c *closure) join(by bond) bool {
-	from, to := c.class[by.a], c.class[by.b]
-	if from == to {
-		return false
-	}
-	for id, class := range c.class {
-		if class == from {
-			c.class[id] = to
-		}
-	}
-	c.bonds = append(c.bonds, by)
-	return true
-}
-
-// congruent joins terms with equal operands, until there are none. A term leaves the list as soon as it is equal to one before it.
-func (c *closure) congruent() {
-	left := map[int][]int{}
-	for id := range c.class {
-		if e := c.exprs[id]; usage.AppliesName(e[len(e)-1]) {
-			left[id] = c.operands(id)
-		}
-	}
-	for again := true; again; {
-		again = false
-		ids := make([]int, 0, len(left))
-		for id := range left {
-			ids = append(ids, id)
-		}
-		slices.Sort(ids)
-		for i, b := range ids {
-			for _, a := range ids[:i] {
-				if c.matches(a, b, left) {
-					again = c.join(bond{a, b, api.None}) || again
-					delete(left, b)
-					break
-				}
-			}
-		}
-	}
-}
-
-// matches says whether two terms, both of which are left, have the same operator and equal operands.
-func (c *closure) matches(a, b int, left map[int][]int) bool {
-	l, m := left[a], left[b]
-	e, f := c.exprs[a], c.exprs[b]
-	if len(l) == 0 || len(l) != len(m) || e[len(e)-1].Text != f[len(f)-1].Text {
-		return false
-	}
-	return slices.EqualFunc(l, m, func(x, y int) bool { return c.class[x] == c.class[y] })
-}
-
-func (c *closure) operands(id int) []int {
-	var out []int
-	for _, o := range alike.Operands(c.exprs[id]) {
-		out = append(out, c.of(o))
-	}
-	return out
-}
-
-// way returns the terms from one to an equal one, with the bonds between.
-func (c *closure) way(from, to int) []bond {
-	before := map[int]bond{}
-	list := []int{from}
-	for i := 0; i < len(list); i++ {
-		for _, by := range c.bonds {
-			if by.b == list[i] {
-				by.a, by.b = by.b, by.a
-			}
-			if _, is := before[by.b]; by.a == list[i] && by.b != from && !is {
-				before[by.b] = by
-				list = append(list, by.b)
-			}
-		}
-	}
-	var out []bond
-	for at := to; at != from; at = before[at].a {
-		out = append(out, before[at])
-	}
-	slices.Reverse(out)
-	return out
-}
-
-func (c *closure) same(id int) int {
-	return c.add(api.RuleSame, c.apply("=", id, id))
-}
-
-// replaced returns a line in which the right side of an equation stands for its left one: at the place of the fresh name in a term.
-func (c *closure) replaced(equation, at int, term api.Expr, a, b int) int {
-	return c.put(line{rule: api.RuleReplace, goal: c.apply("=", a, b), from: []int{equation, at}, name: c.fresh, term: term})
-}
-
-// equal returns a line that says that two terms are equal that are.
-func (c *closure) equal(from, to int) int {
-	if from == to {
-		return c.same(from)
-	}
-	at := 0
-	for i, by := range c.way(from, to) {
-		next := c.bonded(by)
-		if i == 0 {
-			at = next
-		} else {
-			at = c.replaced(next, at, exprs.Apply("=", c.exprs[from], exprs.Name(c.fresh)), from, by.b)
-		}
-	}
-	return at
-}
-
-// bonded returns a line that says what a bond says, in its direction.
-func (c *closure) bonded(by bond) int {
-	if by.equation == api.None {
-		return c.applied(by.a, by.b)
-	}
-	given := c.hyp(by.equation)
-	if c.lines[given].goal == c.apply("=", by.a, by.b) {
-		return given
-	}
-	return c.replaced(given, c.same(by.b), exprs.Apply("=", exprs.Name(c.fresh), c.exprs[by.b]), by.a, by.b)
-}
-
-// applied returns a line that says that two terms with equal operands are equal.
-func (c *closure) applied(a, b int) int {
-	at := c.same(a)
-	operands := c.operands(a)
-	root := c.exprs[a][len(c.exprs[a])-1]
-	for i, to := range c.operands(b) {
-		from := operands[i]
-		if from == to {
-			continue
-		}
-		by := c.equal(from, to)
-		operands[i] = to
-		var l []api.Expr
-		for _, id := range operands {
-			l = append(l, c.exprs[id])
-		}
-		whole := exprs.Apply(root.Text, l...)
-		l[i] = exprs.Name(c.fresh)
-		at = c.replaced(by, at, exprs.Apply("=", c.exprs[a], exprs.Apply(root.Text, l...)), a, c.of(whole))
-	}
-	return at
 }

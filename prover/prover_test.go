@@ -254,6 +254,31 @@ func TestEqual(t *testing.T) {
 	}
 }
 
+// times is f of f of .. of a name.
+func times(n int, s string) string { return strings.Repeat("f(", n) + s + strings.Repeat(")", n) }
+
+// TestEqualThirty has equations and terms of 30 nodes whose derivations are long, and parts that must be told apart.
+func TestEqualThirty(t *testing.T) {
+	for _, c := range []struct {
+		l, a, b string
+		equal   bool
+	}{
+		{"f(a) = b; a = b; f(b) = a", times(17, "a"), "a", true}, {"d = a; d = f(d); c = a; f(c) = c", times(14, "a"), "d", true}, {"f(a) = b; a = b; f(b) = a", times(9, "a"), "a", true}, {"f(a) = a", times(25, "a"), "a", true}, {times(13, "a") + " = a; " + times(8, "a") + " = a", "f(a)", "a", true}, {times(8, "a") + " = a; " + times(6, "a") + " = a", times(7, "a"), "a", false}, {times(8, "a") + " = a; " + times(6, "a") + " = a", times(4, "a"), "a", true},
+		{"b = f(f(f(f))); f = f(e); h(f) = a; h(b) = f; e = f; c = f(f)", "h(f(e))", "f(f)", true}, {"c = h(f); e = f(f); h(f) = e; a = f(f(f(h(f)))); e = f; d = f", "h(e)", "f(f(f))", true}, {"f = e; d = f; c = f; b = f(d); d = f(c); f(f(c)) = g(d); a = e", "g(e)", "f(f)", true},
+		{"a = b; b = c; c = d; d = e; e = g; g = h; h = i; i = j", "f(a, f(a, j))", "f(j, f(e, a))", true}, {"a = b", "F(LAMBDA x : x, a)", "F(LAMBDA y : y, b)", true}, {"a = b", "F(LAMBDA x : x)", "F(a)", false}, {"a = b", "F(LAMBDA x : a)", "F(LAMBDA x : b)", false}, {"a = b; {x \\in s : x} = b", "f({y \\in s : y})", "f(a)", true}, {"a = b", "f({a})", "f({b})", false}, {"{a} = b; a = c", "f({a}, a)", "f(b, c)", true},
+	} {
+		l, a, b := list(t, c.l), expr(t, c.a), expr(t, c.b)
+		is, err := EqualBy(l, a, b)
+		if is != c.equal || err != api.OK {
+			t.Error(c, is, err)
+		}
+		steps, err := ExplainedBy(l, a, b)
+		if c.equal && (err != api.OK || !accepted(steps, api.Sequent{Hyps: l, Goal: exprs.Apply("=", a, b)})) || !c.equal && err != api.ErrNone {
+			t.Error(c, err, len(steps))
+		}
+	}
+}
+
 func randomTerm(r *rand.Rand, size int) api.Expr {
 	switch {
 	case size > 2 && r.Intn(2) == 0:
@@ -331,6 +356,9 @@ func TestEqualRandom(t *testing.T) {
 		var l []api.Expr
 		left := 30
 		a, b := randomTerm(r, 1+r.Intn(6)), randomTerm(r, 1+r.Intn(6))
+		if r.Intn(3) == 0 {
+			a = randomTerm(r, 6+r.Intn(14))
+		}
 		left -= len(a) + len(b)
 		for len(l) < 8 && left > 3 {
 			e := exprs.Apply("=", randomTerm(r, 1+r.Intn(3)), randomTerm(r, 1+r.Intn(2)))
@@ -362,7 +390,9 @@ func TestEqualRandom(t *testing.T) {
 			t.Fatal(texts(l), texts([]api.Expr{a, b}), err)
 		}
 	}
-	t.Log(equal, "equal, the longest derivation of", most)
+	if equal < 500 || most > 100 {
+		t.Error(equal, "equal, the longest derivation of", most)
+	}
 }
 
 func TestRefuted(t *testing.T) {
