@@ -80,10 +80,10 @@ func isOpen(n api.Node) bool {
 
 // binding is the text of a node that binds names, or goes as far as it can.
 func (p printer) binding(n api.Node) string {
-	last := ""
-	if len(n.Args) > 0 {
-		last = p.text(n.Args[len(n.Args)-1], false)
+	if n.Kind == api.ExprCase {
+		return p.cases(n) // it is written operand by operand: each operand is written once, for its text may take long
 	}
+	last := p.text(n.Args[len(n.Args)-1], false)
 	switch n.Kind {
 	case api.ExprFilter:
 		return "{" + p.bounds(n) + " : " + last + "}"
@@ -106,8 +106,6 @@ func (p printer) binding(n api.Node) string {
 		return "[" + p.bounds(n) + " |-> " + last + "]"
 	case api.ExprIf:
 		return "IF " + p.text(n.Args[0], false) + " THEN " + p.text(n.Args[1], false) + " ELSE " + last
-	case api.ExprCase:
-		return p.cases(n)
 	case api.ExprLet:
 		return "LET " + letHead(n) + " == " + p.text(n.Args[0], false) + " IN " + last
 	case api.ExprLambda:

@@ -287,3 +287,35 @@ func TestReplaced(t *testing.T) {
 		t.Error("memory is shared")
 	}
 }
+
+// TestNestedTexts writes expressions that are as deep as they may be; an operand that is written more than once at each of them would never come to an end.
+func TestNestedTexts(t *testing.T) {
+	p := exprs.Name("p")
+	of := func(kind int, names []string, l ...api.Expr) api.Expr {
+		return exprs.Make(api.Node{Kind: kind, Names: names}, l...)
+	}
+	x := []string{"x"}
+	for _, c := range []struct {
+		wrap        func(e api.Expr) api.Expr
+		before, end string
+	}{
+		{func(e api.Expr) api.Expr { return of(api.ExprCase, nil, p, e) }, "CASE p -> ", ""}, {func(e api.Expr) api.Expr { return of(api.ExprCase, nil, p, e, p, p) }, "CASE p -> (", ") [] p -> p"}, {func(e api.Expr) api.Expr { return of(api.ExprCase, nil, p, p, e) }, "CASE p -> p [] OTHER -> ", ""}, {func(e api.Expr) api.Expr { return of(api.ExprCase, nil, e, p) }, "CASE ", " -> p"},
+		{func(e api.Expr) api.Expr { return of(api.ExprIf, nil, p, e, p) }, "IF p THEN ", " ELSE p"}, {func(e api.Expr) api.Expr { return of(api.ExprLet, x, p, e) }, "LET x == p IN ", ""}, {func(e api.Expr) api.Expr { return of(api.ExprMap, x, p, e) }, "{", " : x \\in p}"}, {func(e api.Expr) api.Expr { return of(api.ExprExcept, nil, p, e, p) }, "[p EXCEPT ![", "] = p]"}, {func(e api.Expr) api.Expr { return exprs.Apply("/\\", p, e) }, "p /\\ (", ")"}, {func(e api.Expr) api.Expr { return of(api.ExprAny, x, e) }, "\\A x : ", ""},
+	} {
+		e, times := p, 0
+		for {
+			next := c.wrap(e)
+			if len(next) > api.MaxNodes {
+				break
+			}
+			e, times = next, times+1
+		}
+		want := strings.Repeat(c.before, times) + "p" + strings.Repeat(c.end, times)
+		if c.before == "CASE p -> (" || c.before == "p /\\ (" { // the innermost one is no operand of the kind that has parentheses
+			want = strings.Replace(want, "(p)", "p", 1)
+		}
+		if s, err := FormatExpr(e); s != want || err != api.OK {
+			t.Errorf("%s: %q %d", c.before, s, err)
+		}
+	}
+}
