@@ -98,6 +98,24 @@ func (g Graph) Reversed() Graph {
 	return out
 }
 
+// Distances is for each node along how many edges it is reached from some nodes at least, or -1.
+func (g Graph) Distances(from []int) []int {
+	out := slices.Repeat([]int{-1}, len(g))
+	todo := slices.Clone(from)
+	for _, n := range from {
+		out[n] = 0
+	}
+	for i := 0; i < len(todo); i++ {
+		for _, m := range g[todo[i]] {
+			if out[m] < 0 {
+				out[m] = out[todo[i]] + 1
+				todo = append(todo, m)
+			}
+		}
+	}
+	return out
+}
+
 // Path returns a shortest path from one of some nodes to one that is wanted, both included, through nodes that may be entered; nil if there is none.
 func (g Graph) Path(from []int, wanted, enter func(n int) bool) []int {
 	for _, n := range from {

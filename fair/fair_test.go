@@ -120,6 +120,46 @@ func TestCheck(t *testing.T) {
 	}
 }
 
+// TestFortyNodes has formulas with as many nodes as there may be: their negations have more.
+func TestFortyNodes(t *testing.T) {
+	r := rand.New(rand.NewSource(15))
+	grown := func(s string, sign string) api.Formula { // with "sign p0" put around it, and at last a negation
+		f := read(t, s)
+		for len(f) < api.MaxFormulaNodes-1 {
+			s = "(" + s + " " + sign + " p0)"
+			f = read(t, s)
+		}
+		if len(f) < api.MaxFormulaNodes {
+			f = read(t, "!"+s)
+		}
+		return f
+	}
+	for _, s := range []string{"p1", "!p0", "true", "[]p1", "<>!p0", "(p0 ~> p1)", "([]<>p0 & p1)", "!<>p1", "(p0 U !p1)", "!(p0 ~> p1)", "(!p1 U (p0 U p1))", "([]p0 -> <>p1)"} {
+		for _, sign := range []string{"&", "|", "->"} {
+			f := grown(s, sign)
+			if len(f) != api.MaxFormulaNodes {
+				t.Fatal(s, sign, len(f))
+			}
+			for range 8 {
+				x := some(r, 1+r.Intn(4))
+				if len(x.Weak)+len(x.Strong) > 2 {
+					continue
+				}
+				a, err := Check(x, f)
+				if err != api.OK {
+					t.Fatalf("%s %s: %d", s, sign, err)
+				}
+				if l, err := lasso.FirstAgainst(x, f, 5); a.Kept && err != api.ErrNone {
+					t.Fatalf("%s %s on %v: kept, but %v", s, sign, x, l)
+				}
+				if _, err := CheckAgainst(x, f, a.Lasso); !a.Kept && err != api.OK {
+					t.Fatalf("%s %s on %v: %v %d", s, sign, x, a.Lasso, err)
+				}
+			}
+		}
+	}
+}
+
 func TestRanks(t *testing.T) {
 	x := example()
 	x.Weak = []int{0, 1}

@@ -128,7 +128,7 @@ func TestPlainShapes(t *testing.T) {
 			if n == 4 && i%8 != 0 {
 				continue // there are very many
 			}
-			for _, c := range []struct{ all, one, in, split bool }{{false, false, true, false}, {true, false, true, false}, {false, true, true, false}, {true, true, false, false}, {true, false, true, true}} {
+			for _, c := range []struct{ all, one, in, split, body bool }{{in: true}, {all: true, in: true}, {one: true, in: true}, {all: true, one: true}, {all: true, in: true, split: true}, {body: true}, {all: true, body: true}} {
 				p := api.PlusProcess{Name: "P", In: c.in, Value: name("C"), Fair: api.PlusStrong}
 				for _, v := range []string{"x", "y"} {
 					p.Vars = append(p.Vars, api.PlusVar{Name: v, Begins: api.PlusIn, Value: apply("..", name("self"), name("k"))})
@@ -137,6 +137,11 @@ func TestPlainShapes(t *testing.T) {
 				fill := filler{all: c.all, one: c.one, names: []string{"self", "y", "x"}, vars: []string{"x", "y"}, large: large}
 				a := api.Algorithm{Name: "A", Defs: defs, Processes: []api.PlusProcess{p}}
 				a.Processes[0].Body = fill.fill(cloned(shape), false)
+				if c.body {
+					vars := []api.PlusVar{{Name: "x", Begins: api.PlusIn, Value: apply("..", name("k"), name("k"))}, {Name: "y", Begins: api.PlusEqual, Value: large([]string{"x", "k"})}}
+					fill = filler{all: c.all, names: []string{"k", "y", "x"}, vars: []string{"x", "y"}, large: large}
+					a = api.Algorithm{Name: "A", Fair: api.PlusWeak, Defs: defs, Vars: vars, Body: fill.fill(cloned(shape), false)}
+				}
 				if c.split && len(shape) > 1 {
 					a.Processes = append(a.Processes, api.PlusProcess{Name: "Q", Value: apply("-", number(0), name("k")), Body: []api.PlusStmt{{Kind: api.PlusSkip, Label: "M"}}})
 					a.Processes[0].Body = a.Processes[0].Body[:1]
