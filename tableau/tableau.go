@@ -36,6 +36,7 @@ type tableau struct {
 	musts    []set       // for each part the temporal ones that hold from the next letter on wherever it holds
 	implied  []set       // for each part the alwayses and releases that hold wherever it holds
 	atoms    []int
+	literals []letters // for each part that asks for a letter alone those with which it holds
 	always   set
 	lasting  set
 	users    []set             // for each temporal part those for which it is lasting
@@ -87,6 +88,9 @@ func tableauOf(l api.Formula, positive bool) *tableau {
 	slices.Sort(t.atoms)
 	t.atoms = slices.Compact(t.atoms)
 	t.users = make([]set, len(t.temporal))
+	for _, p := range t.parts {
+		t.literals = append(t.literals, t.literal(p))
+	}
 	return t
 }
 
@@ -187,20 +191,27 @@ func (t *tableau) constant(is bool) letters {
 	return make(letters, size(len(t.atoms)))
 }
 
+// literal is the letters with which a part holds that asks for nothing else.
+func (t *tableau) literal(p part) letters {
+	at, _ := slices.BinarySearch(t.atoms, p.atom)
+	switch p.kind {
+	case formTrue, formFalse:
+		return t.constant(p.kind == formTrue)
+	case formAtom:
+		return withAtom(at, len(t.atoms))
+	case formNoAtom:
+		return t.constant(true).without(withAtom(at, len(t.atoms)))
+	}
+	return nil
+}
+
 // holds is the letters with which a part holds, if those of its operands are known, and what holds from the next letter on.
 func (t *tableau) holds(i int, operand func(i int) letters, next set) letters {
 	p := t.parts[i]
 	later := p.isTemporal() && next.has(t.bit[i])
 	switch p.kind {
-	case formTrue, formFalse:
-		return t.constant(p.kind == formTrue)
-	case formAtom, formNoAtom:
-		at, _ := slices.BinarySearch(t.atoms, p.atom)
-		l := withAtom(at, len(t.atoms))
-		if p.kind == formNoAtom {
-			return t.constant(true).without(l)
-		}
-		return l
+	case formTrue, formFalse, formAtom, formNoAtom:
+		return t.literals[i]
 	case formAnd:
 		return operand(p.a).and(operand(p.b))
 	case formOr:
