@@ -4,6 +4,7 @@ import (
 	"slices"
 
 	"stutter/api"
+	"stutter/eval"
 	"stutter/exprs"
 	"stutter/pluscal"
 	"stutter/process"
@@ -69,6 +70,9 @@ func systemOf(p api.PlusProgram) (*system, api.Errno) {
 		s.add(&part{PlusProcess: api.PlusProcess{Name: q.Name, Vars: q.Vars, Body: q.Body}, params: q.Params, procedure: true, end: "Error"})
 	}
 	for _, q := range a.Processes {
+		if l, _, _ := eval.SetOf(api.Context{Values: p.Constants, Defs: a.Defs}, q.Value); q.In && len(l) > api.MaxLazyNodes/10 {
+			q.Value = listed(q.Value)
+		}
 		s.add(&part{PlusProcess: q, end: "Done"})
 	}
 	if !s.concurrent {
@@ -78,6 +82,14 @@ func systemOf(p api.PlusProgram) (*system, api.Errno) {
 		return nil, api.ErrRefused
 	}
 	return s, api.OK
+}
+
+// listed is a set whose members are listed: with others it may be a part of a set that is not, which may have few such parts.
+func listed(set api.Expr) api.Expr {
+	if set[len(set)-1].Kind == api.ExprSet {
+		return set
+	}
+	return bind(api.ExprFilter, "member", set, name("TRUE"))
 }
 
 func (s *system) add(p *part) {

@@ -119,6 +119,22 @@ func TestManyBeginnings(t *testing.T) {
 	}
 }
 
+// TestManyParts has sets of identities, and of values, that are made of as many sets as there may be.
+func TestManyParts(t *testing.T) {
+	p := program(t, "algorithm C define D1 == {1} \\cup {2} D2 == D1 \\cup D1 \\cup D1 D3 == D2 \\cup D2 \\cup D2 D4 == D2 \\cup {3} end define; process P \\in D3 variables v \\in D3; begin A: v := self; end process; process Q \\in D4 \\ D1 variables w \\in {self, 4} \\cap D4; begin B: skip; end process;")
+	spec, err := SpecOf(p)
+	want, e := process.FirstStates(p)
+	got, at, e2 := action.FirstStates(spec)
+	if err != api.OK || e != api.OK || e2 != api.OK || !slices.EqualFunc(got, want, values.SameState) {
+		t.Fatalf("%d; %d and %d states, %d, %d at %d", err, len(want), len(got), e, e2, at)
+	}
+	for _, x := range want {
+		if n, err := CheckStates(p, spec, []api.State{x}); n != 1 || err != api.OK {
+			t.Errorf("%v: %d", x, err)
+		}
+	}
+}
+
 // TestIdentities has identities of all kinds, small and great, whose variables begin with sets that are the same for all, or depend on the identity, on each other, and may be empty.
 func TestIdentities(t *testing.T) {
 	var numbers []api.Value
