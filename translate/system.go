@@ -70,7 +70,7 @@ func systemOf(p api.PlusProgram) (*system, api.Errno) {
 		s.add(&part{PlusProcess: api.PlusProcess{Name: q.Name, Vars: q.Vars, Body: q.Body}, params: q.Params, procedure: true, end: "Error"})
 	}
 	for _, q := range a.Processes {
-		if l, _, _ := eval.SetOf(api.Context{Values: p.Constants, Defs: a.Defs}, q.Value); q.In && len(l) > api.MaxLazyNodes/10 {
+		if l, _, _ := eval.SetOf(api.Context{Values: p.Constants, Defs: a.Defs}, q.Value); q.In && len(l) > fewParts {
 			q.Value = listed(q.Value)
 		}
 		s.add(&part{PlusProcess: q, end: "Done"})
@@ -84,7 +84,10 @@ func systemOf(p api.PlusProgram) (*system, api.Errno) {
 	return s, api.OK
 }
 
-// listed is a set whose members are listed: with others it may be a part of a set that is not, which may have few such parts.
+// fewParts is of how many parts a set of identities is made at most that is not listed: the sets of all processes together, and a set of functions on one of them, have fewer than MaxLazyNodes then.
+const fewParts = 4
+
+// listed is a set whose members are listed.
 func listed(set api.Expr) api.Expr {
 	if set[len(set)-1].Kind == api.ExprSet {
 		return set
